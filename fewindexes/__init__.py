@@ -1,0 +1,1 @@
+"""Fewindexes: which sorted lists of a table serve what is asked."""

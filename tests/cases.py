@@ -1,0 +1,139 @@
+"""Small INDEXES, LOOKUPS and TABLES, all that there are, and the definitions of DOC.md tried on them as they stand."""
+
+from itertools import combinations, combinations_with_replacement, permutations, product
+
+# Things of other kinds, to be put in the place of whatever a function wants.
+ODD_THINGS = (None, 0, 1, -1, 9, 99, True, False, "x", "up", "", b"up", (), (0,), ("not",), [], [0], {}, {0: 1}, object)
+
+
+class Oddity:
+    """It says that it is equal to all, and breaks when it is ordered or measured."""
+
+    def __eq__(self, other):
+        return True
+
+    def __lt__(self, other):
+        raise RuntimeError("ordered")
+
+    def __len__(self):
+        raise RuntimeError("measured")
+
+    __hash__ = None
+
+
+class Thorny:
+    """It breaks even when it is compared."""
+
+    def __eq__(self, other):
+        raise RuntimeError("compared")
+
+    __hash__ = None
+
+
+def all_sorts(columns):
+    """All tuples of STEPS with these columns, no column twice."""
+    found = []
+    for many in range(len(columns) + 1):
+        for turn in permutations(columns, many):
+            found.extend(tuple(zip(turn, ways)) for ways in product(("up", "down"), repeat=many))
+    return found
+
+
+def all_lots(columns):
+    return [lot for many in range(columns + 1) for lot in combinations(range(columns), many)]
+
+
+def all_indexes(columns):
+    return [steps for steps in all_sorts(range(columns)) if steps]
+
+
+def all_lookups(columns):
+    found = []
+    for equal in all_lots(columns):
+        others = [column for column in range(columns) if column not in equal]
+        found.extend((equal, sort) for sort in all_sorts(others) if equal or sort)
+    return sorted(found)
+
+
+def all_tables(columns, values, most):
+    """All TABLES of at most so many rows with these values."""
+    rows = sorted(product(values, repeat=columns))
+    return [table for many in range(most + 1) for table in combinations_with_replacement(rows, many)]
+
+
+def less_by(steps, row, other):
+    """Point 4: whether a row is less than another one by the STEPS."""
+    for column, way in steps:
+        if row[column] != other[column]:
+            return (row[column] < other[column]) == (way == "up")
+    return False
+
+
+def in_order(steps, rows):
+    """Whether none of the rows stands ahead of one that is less by the STEPS."""
+    return not any(less_by(steps, later, ahead) for ahead, later in combinations(rows, 2))
+
+
+def all_listings(table, index):
+    """Point 4: all LISTINGS, by trying all turns of the rows."""
+    return [rows for rows in set(permutations(table)) if in_order(index, rows)]
+
+
+def is_kept(rows, lookup):
+    """Point 5, of one LISTING: side by side, and none ahead of a lesser one."""
+    equal, sort = lookup
+    values = [tuple(row[column] for column in equal) for row in rows]
+    for value in set(values):
+        places = [at for at, told in enumerate(values) if told == value]
+        if places[-1] - places[0] + 1 != len(places):
+            return False
+        if not in_order(sort, [rows[at] for at in places]):
+            return False
+    return True
+
+
+def keeps(listings, lookup, way):
+    """Point 5: whether a TABLE with these LISTINGS keeps the LOOKUP so."""
+    return all(is_kept(rows if way == "forward" else rows[::-1], lookup) for rows in listings)
+
+
+def serves_by_fact(index, lookup):
+    """The Fact of point 5, word by word."""
+    equal, sort = lookup
+    sets = [set(equal) | {step[0] for step in sort[:many]} for many in range(len(sort) + 1)]
+    starts = [{step[0] for step in index[:many]} for many in range(len(index) + 1)]
+    turned = [(column, "up" if way == "down" else "down") for column, way in sort]
+    in_it = all(step in index for step in sort) or all(step in index for step in turned)
+    return in_it and all(told in starts for told in sets)
+
+
+def served_table(columns):
+    """For each LOOKUP the set of all INDEXES that serve it."""
+    indexes = all_indexes(columns)
+    return {lookup: {index for index in indexes if serves_by_fact(index, lookup)} for lookup in all_lookups(columns)}
+
+
+def changed(thing, others=ODD_THINGS):
+    """The thing changed at each place, once in each way: put out, twice there, or another thing there."""
+    yield from others
+    if isinstance(thing, tuple):
+        yield list(thing)
+        yield (*thing, None)
+        for at, part in enumerate(thing):
+            yield thing[:at] + thing[at + 1:]
+            yield thing[:at] + (part,) + thing[at:]
+            for other in changed(part, others):
+                yield thing[:at] + (other,) + thing[at + 1:]
+    elif type(thing) is int:
+        yield from (thing - 1, thing + 1)
+    elif thing in ("up", "down"):
+        yield "down" if thing == "up" else "up"
+
+
+def error_of(call, *given):
+    """The error that a call raises, told as its class and its fields, or None."""
+    try:
+        call(*given)
+    except (ValueError, OverflowError, KeyError, RuntimeError) as error:
+        return (type(error).__name__, error.__dict__)
+    return None

@@ -1,0 +1,91 @@
+"""Point 1, of every function: nothing is changed, equal calls tell equal things, arguments by position or by name."""
+
+import copy
+import importlib
+import unittest
+
+from cases import Oddity, Thorny, error_of
+
+STEP_UP, STEP_DOWN = (0, "up"), (1, "down")
+INDEX = (STEP_UP, STEP_DOWN, (2, "up"))
+LOOKUP = ((0,), (STEP_DOWN,))
+OTHER = ((), (STEP_UP, (1, "up")))
+DEMAND = (3, tuple(sorted([LOOKUP, OTHER, ((0, 2), ()), ((1,), ((0, "up"), (2, "up")))])))
+
+# Of each function its file, its name, and right arguments by the names that the interface tells.
+CALLS = [
+    ("demands", "need_demand", {"thing": DEMAND}),
+    ("demands", "need_lookup", {"columns": 3, "thing": LOOKUP}),
+    ("demands", "sets_of", {"columns": 3, "lookup": LOOKUP}),
+    ("demands", "bare_lookups", {"demand": DEMAND}),
+    ("indexes", "need_index", {"columns": 3, "thing": INDEX}),
+    ("indexes", "beginnings", {"columns": 3, "index": INDEX}),
+    ("indexes", "way_of", {"columns": 3, "index": INDEX, "lookup": LOOKUP}),
+    ("indexes", "does_serve", {"columns": 3, "index": INDEX, "lookup": LOOKUP}),
+    ("indexes", "served_by", {"demand": DEMAND, "index": INDEX}),
+    ("within", "is_within", {"columns": 3, "one": OTHER, "other": LOOKUP}),
+    ("within", "within_paper", {"columns": 3, "one": OTHER, "other": LOOKUP}),
+    ("within", "check_within", {"columns": 3, "one": OTHER, "other": LOOKUP, "paper": ("not", INDEX)}),
+]
+
+# What is refused, and could be changed by a careless program.
+SOFT = [[], [3, [((0,), ())]], {}, {0: [1]}, ["within"], ([0], []), ([], {}), [[0, "up"]], (3, [((0,), ())])]
+
+
+def is_hard(thing):
+    """Whether nothing in it can be changed."""
+    if isinstance(thing, tuple):
+        return all(is_hard(part) for part in thing)
+    return thing is None or type(thing) in (int, str, bool)
+
+
+class Calls(unittest.TestCase):
+    def each(self):
+        for file, name, given in CALLS:
+            yield name, getattr(importlib.import_module(f"fewindexes.{file}"), name), given
+
+    def test_by_position_and_by_name(self):
+        for name, call, given in self.each():
+            self.assertEqual(call(*given.values()), call(**given), name)
+
+    def test_equal_calls_tell_equal_things(self):
+        for name, call, given in self.each():
+            first = call(*given.values())
+            again = call(*copy.deepcopy(list(given.values())))
+            self.assertEqual(first, again, name)
+            self.assertEqual(type(first), type(again), name)
+
+    def test_what_is_told_cannot_be_changed(self):
+        # so no later call can be told otherwise by what a caller does with it
+        for name, call, given in self.each():
+            self.assertTrue(is_hard(call(*given.values())), name)
+
+    def test_nothing_that_is_passed_is_changed(self):
+        for name, call, given in self.each():
+            for at in range(len(given)):
+                for soft in SOFT:
+                    passed = copy.deepcopy(soft)
+                    error_of(call, *[passed if place == at else thing for place, thing in enumerate(given.values())])
+                    self.assertEqual(passed, soft, name)
+
+    def test_refused_where_each_argument_is_wrong(self):
+        for name, call, given in self.each():
+            for at, wanted in enumerate(given):
+                for thing in (None, -1, True, "x", [], {}, (), ((),), (None,), 3.5j, Oddity(), Thorny(), (Thorny(),)):
+                    told = error_of(call, *[thing if place == at else right
+                                            for place, right in enumerate(given.values())])
+                    self.assertIsNotNone(told, (name, wanted))
+                    self.assertIn(told[0][:3], ("Bad",), (name, wanted))
+
+    def test_the_first_wrong_argument_is_refused(self):
+        for name, call, given in self.each():
+            right = list(given.values())
+            for at in range(len(right)):
+                first = error_of(call, *right[:at], "x", *right[at + 1:])
+                for later in range(at + 1, len(right)):
+                    both = right[:at] + ["x"] + right[at + 1:later] + ["y"] + right[later + 1:]
+                    self.assertEqual(error_of(call, *both), first, name)
+
+
+if __name__ == "__main__":
+    unittest.main()

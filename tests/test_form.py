@@ -1,0 +1,270 @@
+"""The files of the package by LANGUAGE.md: a narrower language than its rules allow, so that none is broken."""
+
+import ast
+import builtins
+import os
+import re
+import unittest
+
+ROOT = os.path.dirname(os.path.dirname(os.path.abspath(__file__)))
+FOLDER = os.path.join(ROOT, "fewindexes")
+
+INTERFACE = {
+    "errors": "FewError BadText BadDemand BadPaper BadStock BadTells BadNeeds BadIndexes BadTerm BadNumber BadNumbers "
+              "BadLookup BadIndex BadTable BadWay BadValues BadPrices BadWorths BadPart BadRow BadKey BadName BadLot "
+              "BadUpkeeps BadChange Broken TooMany Missing NothingLeft",
+    "demands": "need_demand(thing) need_lookup(columns,thing) sets_of(columns,lookup) bare_lookups(demand)",
+    "indexes": "need_index(columns,thing) beginnings(columns,index) way_of(columns,index,lookup) "
+               "does_serve(columns,index,lookup) served_by(demand,index)",
+    "within": "is_within(columns,one,other) within_paper(columns,one,other) check_within(columns,one,other,paper)",
+}
+
+STATEMENTS = (ast.FunctionDef, ast.ClassDef, ast.Return, ast.Assign, ast.For, ast.While, ast.If, ast.Raise,
+              ast.ImportFrom, ast.Expr, ast.AugAssign, ast.Continue, ast.Break)
+EXPRESSIONS = (ast.BoolOp, ast.BinOp, ast.UnaryOp, ast.IfExp, ast.Dict, ast.ListComp, ast.DictComp, ast.Compare,
+               ast.Call, ast.Constant, ast.Attribute, ast.Subscript, ast.Starred, ast.Name, ast.List, ast.Tuple,
+               ast.Slice)
+OPERATORS = (ast.And, ast.Or, ast.Add, ast.Sub, ast.Mult, ast.LShift, ast.BitAnd, ast.Not, ast.USub, ast.Eq, ast.NotEq,
+             ast.Lt, ast.LtE, ast.Gt, ast.GtE, ast.Is, ast.IsNot, ast.In, ast.NotIn)
+PARTS = (ast.Module, ast.arguments, ast.arg, ast.alias, ast.comprehension, ast.Load, ast.Store)
+CALLED = {"len", "range", "enumerate", "sum", "sorted", "tuple", "list", "dict", "set", "any", "all", "min", "max",
+          "type"}
+ITERATED_AT_ONCE = {"range", "enumerate"}
+METHODS = {"append", "extend", "get", "setdefault", "items", "values"}
+NEVER_IN_A_FILE = {"typing", "typing_extensions", "enum", "Enum", "IntEnum", "StrEnum", "Flag", "IntFlag", "Generic",
+                   "Protocol", "ABC", "ABCMeta", "namedtuple", "NamedTuple", "TypedDict", "TYPE_CHECKING",
+                   "abstractmethod", "dataclass", "overload", "contextmanager", "_wall", "_WallAttr", "global",
+                   "lambda", "yield", "print", "float"}
+NO_NAMES = {"register", "mro", "elements", "open", "input", "law", "version_info", "with_traceback", "add_note",
+            "copyright", "credits", "exit", "license", "os", "sys", "gc", "help", "locals", "vars", "attrgetter",
+            "methodcaller", "importlib", "builtins", "args"}
+
+
+def sources():
+    for name in sorted(os.listdir(FOLDER)):
+        if name != "__pycache__":
+            with open(os.path.join(FOLDER, name), encoding="utf-8", newline="") as file:
+                yield name, file.read()
+
+
+def bound_names(tree):
+    """All names that stand for something in a file or a part of one: stored, defined, parameters, imported."""
+    found = []
+    for node in ast.walk(tree):
+        if isinstance(node, ast.Name) and isinstance(node.ctx, ast.Store):
+            found.append(node.id)
+        elif isinstance(node, (ast.FunctionDef, ast.ClassDef)):
+            found.append(node.name)
+        elif isinstance(node, ast.arg):
+            found.append(node.arg)
+        elif isinstance(node, ast.ImportFrom):
+            found.extend(alias.asname or alias.name for alias in node.names)
+    return found
+
+
+class Files(unittest.TestCase):
+    def test_names_and_sizes(self):
+        for name, text in sources():
+            self.assertRegex(name, r"^(__init__|[a-z][a-z0-9_]*)\.py$")
+            self.assertFalse(name.startswith(("law_", "test")) or name[:-3] in dir(builtins), name)
+            lines = text.split("\n")
+            self.assertLessEqual(len(lines), 399, name)
+            self.assertLessEqual(max(len(line) for line in lines), 120, name)
+            self.assertTrue(text.endswith("\n") and not text.endswith("\n\n"), name)
+            self.assertTrue(all(" " <= sign <= "~" or sign == "\n" for sign in text), name)
+            self.assertFalse([line for line in lines if line != line.rstrip()], name)
+
+    def test_words(self):
+        for name, text in sources():
+            words = set(re.findall(r"[A-Za-z_]+", text))
+            self.assertFalse(words & NEVER_IN_A_FILE, name)
+            self.assertNotIn("%", text)
+            self.assertNotIn("\\", text)
+
+    def test_functions_are_short_and_plain(self):
+        for name, text in sources():
+            for node in ast.walk(ast.parse(text)):
+                if isinstance(node, ast.FunctionDef):
+                    self.assertLessEqual(node.end_lineno - node.lineno + 1, 40, node.name)
+                    self.assertFalse(node.decorator_list or node.returns, node.name)
+                    given = node.args
+                    self.assertFalse(given.vararg or given.kwarg or given.kwonlyargs or given.posonlyargs)
+                    self.assertFalse(given.defaults, node.name)
+                    self.assertIsNotNone(ast.get_docstring(node) or node.name == "__init__" or None, node.name)
+                    nested = [part for part in ast.walk(node) if isinstance(part, (ast.FunctionDef, ast.ClassDef))]
+                    self.assertEqual(nested, [node], node.name)
+
+
+class Nodes(unittest.TestCase):
+    def test_only_these(self):
+        for name, text in sources():
+            for node in ast.walk(ast.parse(text)):
+                self.assertIsInstance(node, STATEMENTS + EXPRESSIONS + OPERATORS + PARTS, (name, ast.dump(node)))
+                if isinstance(node, ast.Constant):
+                    self.assertIn(type(node.value), (int, str, bool, type(None)), name)
+                if isinstance(node, ast.Call):
+                    self.assertFalse(node.keywords, name)
+                if isinstance(node, ast.BinOp) and isinstance(node.op, ast.LShift):
+                    self.assertEqual(ast.unparse(node.left), "1", name)
+
+    def test_module_level(self):
+        for name, text in sources():
+            tree = ast.parse(text)
+            self.assertIsNotNone(ast.get_docstring(tree), name)
+            imports = True
+            for node in tree.body[1:]:
+                self.assertIsInstance(node, (ast.ImportFrom, ast.FunctionDef, ast.ClassDef, ast.Assign), name)
+                self.assertTrue(imports or not isinstance(node, ast.ImportFrom), name)
+                imports = imports and isinstance(node, ast.ImportFrom)
+                if isinstance(node, ast.Assign):
+                    self.assertEqual(len(node.targets), 1)
+                    self.assertIsInstance(node.targets[0], ast.Name)
+                    self.assertIsInstance(node.value, (ast.Constant, ast.Tuple), name)
+                    ast.literal_eval(node.value)
+
+    def test_calls(self):
+        for name, text in sources():
+            tree = ast.parse(text)
+            own = set(bound_names(tree))
+            for node in ast.walk(tree):
+                if not isinstance(node, ast.Call):
+                    continue
+                if isinstance(node.func, ast.Attribute):
+                    self.assertIn(node.func.attr, METHODS, name)
+                else:
+                    self.assertIsInstance(node.func, ast.Name, name)
+                    self.assertTrue(node.func.id in CALLED or node.func.id in own, (name, node.func.id))
+
+    def test_builtins_are_called_and_used_where_they_may(self):
+        for name, text in sources():
+            tree = ast.parse(text)
+            for node in ast.walk(tree):
+                for field, part in ast.iter_fields(node):
+                    for child in part if isinstance(part, list) else [part]:
+                        self.builtin_used(name, node, field, child)
+
+    def builtin_used(self, name, node, field, child):
+        if isinstance(child, ast.Call) and isinstance(child.func, ast.Name):
+            told = child.func.id
+            if told in ITERATED_AT_ONCE:
+                self.assertTrue(isinstance(node, (ast.For, ast.comprehension)) and field == "iter", (name, told))
+            if told == "set":
+                self.assertEqual(ast.unparse(node.func) if isinstance(node, ast.Call) else None, "len", name)
+            if told == "type":
+                self.assertTrue(isinstance(node, ast.Compare) and isinstance(node.ops[0], (ast.Is, ast.IsNot)))
+                self.assertIn(ast.unparse(node.comparators[0]), ("int", "str", "tuple"), name)
+        if isinstance(child, ast.Name) and child.id in dir(builtins) and isinstance(child.ctx, ast.Load):
+            called = isinstance(node, ast.Call) and field == "func"
+            kind = isinstance(node, ast.Compare) and field == "comparators" and child.id in ("int", "str", "tuple")
+            self.assertTrue(called or kind or isinstance(node, ast.ClassDef), (name, child.id))
+
+    def test_is_beside_none_and_kinds_alone(self):
+        for name, text in sources():
+            for node in ast.walk(ast.parse(text)):
+                if isinstance(node, ast.Compare) and isinstance(node.ops[0], (ast.Is, ast.IsNot)):
+                    self.assertIn(ast.unparse(node.comparators[0]), ("None", "int", "str", "tuple"), name)
+
+    def test_what_is_looped_over_is_not_changed(self):
+        for name, text in sources():
+            for loop in ast.walk(ast.parse(text)):
+                if isinstance(loop, ast.For):
+                    over = {ast.unparse(part) for part in ast.walk(loop.iter) if isinstance(part, (ast.Name))}
+                    body = ast.Module(body=loop.body, type_ignores=[])
+                    for node in ast.walk(body):
+                        if isinstance(node, ast.Call) and isinstance(node.func, ast.Attribute):
+                            if node.func.attr in ("append", "extend", "setdefault"):
+                                self.assertNotIn(ast.unparse(node.func.value), over, (name, loop.lineno))
+                        if isinstance(node, ast.Subscript) and isinstance(node.ctx, ast.Store):
+                            self.assertNotIn(ast.unparse(node.value), over, (name, loop.lineno))
+
+    def test_errors_are_made_where_they_are_raised(self):
+        for name, text in sources():
+            for node in ast.walk(ast.parse(text)):
+                if isinstance(node, ast.Raise):
+                    self.assertIsInstance(node.exc, ast.Call, name)
+                    self.assertIsNone(node.cause, name)
+
+
+class Names(unittest.TestCase):
+    def test_no_name_means_two_things(self):
+        for name, text in sources():
+            tree = ast.parse(text)
+            top = []
+            for node in tree.body:
+                top.extend(bound_names(node) if isinstance(node, (ast.ImportFrom, ast.Assign)) else
+                           [node.name] if isinstance(node, (ast.FunctionDef, ast.ClassDef)) else [])
+            self.assertEqual(len(top), len(set(top)), name)
+            for node in ast.walk(tree):
+                if isinstance(node, ast.FunctionDef):
+                    inner = set(bound_names(node)) - {node.name}
+                    self.assertFalse(inner & set(top), (name, node.name))
+
+    def test_no_name_that_is_barred(self):
+        for name, text in sources():
+            for told in bound_names(ast.parse(text)):
+                self.assertNotIn(told, dir(builtins), name)
+                self.assertNotIn(told, NO_NAMES, name)
+                if told != "__init__":
+                    self.assertRegex(told, r"^(_|[A-Za-z][A-Za-z0-9_]*)$")
+            for node in ast.walk(ast.parse(text)):
+                if isinstance(node, ast.Name) and isinstance(node.ctx, ast.Load):
+                    self.assertNotEqual(node.id, "_", name)
+
+    def test_variables_of_comprehensions_are_their_own(self):
+        for name, text in sources():
+            for function in ast.walk(ast.parse(text)):
+                if isinstance(function, ast.FunctionDef):
+                    for outer in ast.walk(function):
+                        if isinstance(outer, ast.ListComp):
+                            self.inner_names(name, outer)
+
+    def inner_names(self, name, outer):
+        own = set(bound_names(outer))
+        names = [told for told in bound_names(outer)]
+        self.assertEqual(len(names), len(own), (name, outer.lineno))
+
+    def test_imports(self):
+        trees = {name[:-3]: ast.parse(text) for name, text in sources()}
+        asked = {}
+        for name, tree in trees.items():
+            asked[name] = []
+            loads = {node.id for node in ast.walk(tree) if isinstance(node, ast.Name)}
+            for node in ast.walk(tree):
+                if isinstance(node, ast.ImportFrom):
+                    self.assertEqual(node.level, 0)
+                    self.assertRegex(node.module, r"^fewindexes\.[a-z]+$")
+                    other = node.module.split(".")[1]
+                    asked[name].append(other)
+                    defined = {part.name for part in trees[other].body
+                               if isinstance(part, (ast.FunctionDef, ast.ClassDef))}
+                    for alias in node.names:
+                        self.assertIsNone(alias.asname)
+                        self.assertIn(alias.name, defined, (name, other))
+                        self.assertIn(alias.name, loads, (name, "imports in vain"))
+        while asked:
+            ready = [name for name, others in asked.items() if not set(others) & set(asked)]
+            self.assertTrue(ready, f"import each other: {sorted(asked)}")
+            asked = {name: others for name, others in asked.items() if name not in ready}
+
+
+class Interface(unittest.TestCase):
+    def test_defined_where_it_is_listed(self):
+        trees = {name[:-3]: ast.parse(text) for name, text in sources()}
+        for name, listed in INTERFACE.items():
+            told = set()
+            for node in trees[name].body:
+                if isinstance(node, ast.ClassDef):
+                    told.add(node.name)
+                elif isinstance(node, ast.FunctionDef):
+                    told.add(f"{node.name}({','.join(given.arg for given in node.args.args)})")
+            self.assertFalse(set(listed.split()) - told, name)
+
+    def test_what_is_said_again(self):
+        # each function of the package has a name of its own, so that a reader finds it by that
+        told = [node.name for _, text in sources() for node in ast.parse(text).body
+                if isinstance(node, (ast.FunctionDef, ast.ClassDef))]
+        self.assertEqual(len(told), len(set(told)))
+
+
+if __name__ == "__main__":
+    unittest.main()

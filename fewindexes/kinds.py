@@ -73,3 +73,24 @@ def is_lookup(columns, thing):
     if equal == () and sort == ():
         return False
     return not any([column in equal for column in columns_of(sort)])
+
+
+def is_integers(many, thing):
+    """Whether it is a tuple of so many integers."""
+    return type(thing) is tuple and len(thing) == many and all([is_integer(part) for part in thing])
+
+
+def is_table(columns, thing):
+    """Whether it is a TABLE of so many columns."""
+    if type(thing) is not tuple or len(thing) > 30:
+        return False
+    if not all([is_integers(columns, row) for row in thing]):
+        return False
+    return all([thing[at - 1] <= thing[at] for at in range(1, len(thing))])
+
+
+def is_indexes(columns, thing):
+    """Whether it is a tuple of at most 12 INDEXES, perhaps alike."""
+    if type(thing) is not tuple or len(thing) > 12:
+        return False
+    return all([is_index(columns, index) for index in thing])

@@ -38,3 +38,43 @@ def is_bare(lookups, number):
 def bare_numbers(lookups):
     """The list of the numbers of the BARE ones, ascending."""
     return [number for number in range(len(lookups)) if is_bare(lookups, number)]
+
+
+def set_bits(lookup):
+    """The list of the SETS of a LOOKUP as integers, each with a bit for each column."""
+    equal, sort = lookup
+    found = [sum([1 << column for column in equal])]
+    for column in columns_of(sort):
+        found.append(found[-1] + (1 << column))
+    return found
+
+
+def clashing_sets(one, other):
+    """The numbers of a SET of the one and of a SET of the other, neither of which has all of the other, or None."""
+    theirs = set_bits(other)
+    for at, bits in enumerate(set_bits(one)):
+        for place, others in enumerate(theirs):
+            if (bits & others) not in (bits, others):
+                return (at, place)
+    return None
+
+
+def clashing_columns(one, other):
+    """Two columns by which both sort, with like WAYS in just one of them, the lesser first, or None."""
+    ways, theirs = dict(one[1]), dict(other[1])
+    shared = sorted([column for column in ways if column in theirs])
+    for place, column in enumerate(shared):
+        for ahead in shared[:place]:
+            if (ways[ahead] == ways[column]) != (theirs[ahead] == theirs[column]):
+                return (ahead, column)
+    return None
+
+
+def do_two_fit(one, other):
+    """Whether two LOOKUPS fit, by the Fact."""
+    return clashing_sets(one, other) is None and clashing_columns(one, other) is None
+
+
+def goes_ahead(one, other):
+    """Whether of two BARE LOOKUPS the one is AHEAD of the other."""
+    return len(one[0]) < len(other[0]) and do_two_fit(one, other)

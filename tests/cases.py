@@ -1,6 +1,7 @@
 """Small INDEXES, LOOKUPS and TABLES, all that there are, and the definitions of DOC.md tried on them as they stand."""
 
 from itertools import combinations, combinations_with_replacement, permutations, product
+from random import Random
 
 # Things of other kinds, to be put in the place of whatever a function wants.
 ODD_THINGS = (None, 0, 1, -1, 9, 99, True, False, "x", "up", "", b"up", (), (0,), ("not",), [], [0], {}, {0: 1}, object)
@@ -137,3 +138,80 @@ def error_of(call, *given):
     except (ValueError, OverflowError, KeyError, RuntimeError) as error:
         return (type(error).__name__, error.__dict__)
     return None
+
+
+def has_sets(lookup):
+    """The SETS of a LOOKUP, as Python's sets."""
+    equal, sort = lookup
+    return [set(equal) | {step[0] for step in sort[:many]} for many in range(len(sort) + 1)]
+
+
+def fit_by_fact(one, other):
+    """The Fact of point 7 about two LOOKUPS, word by word."""
+    if not all(first <= second or second <= first for first in has_sets(one) for second in has_sets(other)):
+        return False
+    ways, theirs = dict(one[1]), dict(other[1])
+    return all((ways[less] == ways[more]) == (theirs[less] == theirs[more])
+               for less, more in combinations(sorted(set(ways) & set(theirs)), 2))
+
+
+def some_demands(columns, sizes, many, seed):
+    """Many DEMANDS by a random source that begins alike each time: of long LOOKUPS, of short ones, of near ones."""
+    source = Random(seed)
+    found = []
+    for at in range(many):
+        wanted, lookups = source.choice(sizes), set()
+        turn = source.sample(range(columns), columns)
+        while len(lookups) < wanted:
+            if at % 3 != 0:
+                source.shuffle(turn)
+            elif source.random() < 0.6:
+                low = source.randrange(columns)
+                turn[low:low + 2] = turn[low:low + 2][::-1]
+            lookups.add(some_lookup(source, turn))
+        found.append((columns, tuple(sorted(lookups))))
+    return found
+
+
+def some_lookup(source, turn):
+    """A LOOKUP of the first columns in a turn."""
+    while True:
+        equal, sorted_by = source.randrange(len(turn)), source.randrange(4)
+        sort = tuple((column, source.choice(("up", "up", "down"))) for column in turn[equal:equal + sorted_by])
+        if equal or sort:
+            return (tuple(sorted(turn[:equal])), sort)
+
+
+def served_sets(demand, served):
+    """For each LOOKUP of a DEMAND the INDEXES that serve it, by what served_table tells."""
+    return [served[lookup] for lookup in demand[1]]
+
+
+def fewest_by_all_indexes(demand, served):
+    """Point 10: the least number of INDEXES, by trying all that there are."""
+    everyone = (1 << len(demand[1])) - 1
+    masks = {}
+    for number, indexes in enumerate(served_sets(demand, served)):
+        for index in indexes:
+            masks[index] = masks.get(index, 0) | 1 << number
+    kinds, reached, many = set(masks.values()), {0}, 0
+    while everyone not in reached:
+        reached = {mask | kind for mask in reached for kind in kinds}
+        many += 1
+    return many
+
+
+def lots_by_all(demand):
+    """All lots of LOOKUPS that are APART, by trying all there are; two fit by the Fact."""
+    lookups = demand[1]
+    fit = {(one, other) for one, other in combinations(range(len(lookups)), 2)
+           if fit_by_fact(lookups[one], lookups[other])}
+    return [lot for many in range(1, len(lookups) + 1) for lot in combinations(range(len(lookups)), many)
+            if not any(pair in fit for pair in combinations(lot, 2))]
+
+
+def greatest_by_all(demand):
+    """The greatest ones of them, ascending."""
+    lots = lots_by_all(demand)
+    most = max(len(lot) for lot in lots)
+    return tuple(sorted(lot for lot in lots if len(lot) == most))

@@ -12,6 +12,9 @@ LOOKUP = ((0,), (STEP_DOWN,))
 OTHER = ((), (STEP_UP, (1, "up")))
 DEMAND = (3, tuple(sorted([LOOKUP, OTHER, ((0, 2), ()), ((1,), ((0, "up"), (2, "up")))])))
 
+PAIR = (2, (((0,), ()), ((1,), ())))
+TABLE = ((0, 1, 2), (0, 1, 2), (0, 2, 0), (1, 0, 0))
+
 # Of each function its file, its name, and right arguments by the names that the interface tells.
 CALLS = [
     ("demands", "need_demand", {"thing": DEMAND}),
@@ -26,6 +29,24 @@ CALLS = [
     ("within", "is_within", {"columns": 3, "one": OTHER, "other": LOOKUP}),
     ("within", "within_paper", {"columns": 3, "one": OTHER, "other": LOOKUP}),
     ("within", "check_within", {"columns": 3, "one": OTHER, "other": LOOKUP, "paper": ("not", INDEX)}),
+    ("tables", "need_table", {"columns": 3, "thing": TABLE}),
+    ("tables", "listing", {"columns": 3, "table": TABLE, "index": INDEX}),
+    ("tables", "does_keep", {"columns": 3, "table": TABLE, "index": INDEX, "lookup": LOOKUP, "way": "forward"}),
+    ("tables", "rows_for", {"columns": 3, "table": TABLE, "lookup": LOOKUP, "values": (0,)}),
+    ("tables", "serve_paper", {"columns": 3, "index": INDEX, "lookup": OTHER}),
+    ("tables", "check_serve", {"columns": 3, "index": INDEX, "lookup": LOOKUP, "paper": ("forward",)}),
+    ("fitting", "do_fit", {"demand": DEMAND, "numbers": (0, 2)}),
+    ("fitting", "index_for", {"demand": DEMAND, "numbers": (0,)}),
+    ("fitting", "fit_paper", {"demand": DEMAND, "numbers": (0, 1, 3)}),
+    ("fitting", "check_fit", {"demand": DEMAND, "numbers": (0, 3), "paper": ("sets", 0, 1, 3, 0)}),
+    ("fitting", "is_ahead", {"demand": DEMAND, "one": 0, "other": 2}),
+    ("covering", "are_apart", {"demand": DEMAND, "numbers": (0, 1)}),
+    ("covering", "fewest", {"demand": DEMAND}),
+    ("covering", "fewest_paper", {"demand": DEMAND}),
+    ("covering", "check_fewest", {"demand": PAIR, "paper": (((STEP_UP,), (STEP_DOWN,)), (0, 1))}),
+    ("aparts", "greatest_lots", {"demand": DEMAND}),
+    ("aparts", "critical", {"demand": DEMAND}),
+    ("aparts", "needs_more", {"demand": DEMAND, "lookup": ((2,), ())}),
 ]
 
 # What is refused, and could be changed by a careless program.
@@ -72,6 +93,8 @@ class Calls(unittest.TestCase):
         for name, call, given in self.each():
             for at, wanted in enumerate(given):
                 for thing in (None, -1, True, "x", [], {}, (), ((),), (None,), 3.5j, Oddity(), Thorny(), (Thorny(),)):
+                    if type(thing) is tuple and not thing and (wanted == "table" or name == "need_table"):
+                        continue
                     told = error_of(call, *[thing if place == at else right
                                             for place, right in enumerate(given.values())])
                     self.assertIsNotNone(told, (name, wanted))

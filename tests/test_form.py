@@ -17,6 +17,13 @@ INTERFACE = {
     "indexes": "need_index(columns,thing) beginnings(columns,index) way_of(columns,index,lookup) "
                "does_serve(columns,index,lookup) served_by(demand,index)",
     "within": "is_within(columns,one,other) within_paper(columns,one,other) check_within(columns,one,other,paper)",
+    "tables": "need_table(columns,thing) listing(columns,table,index) does_keep(columns,table,index,lookup,way) "
+              "rows_for(columns,table,lookup,values) serve_paper(columns,index,lookup) "
+              "check_serve(columns,index,lookup,paper)",
+    "fitting": "do_fit(demand,numbers) index_for(demand,numbers) fit_paper(demand,numbers) "
+               "check_fit(demand,numbers,paper) is_ahead(demand,one,other)",
+    "covering": "are_apart(demand,numbers) fewest(demand) fewest_paper(demand) check_fewest(demand,paper)",
+    "aparts": "greatest_lots(demand) critical(demand) needs_more(demand,lookup)",
 }
 
 STATEMENTS = (ast.FunctionDef, ast.ClassDef, ast.Return, ast.Assign, ast.For, ast.While, ast.If, ast.Raise,

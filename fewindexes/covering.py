@@ -1,0 +1,60 @@
+"""LOOKUPS that are APART, the fewest INDEXES for a DEMAND, and the PAPERS on it."""
+
+from fewindexes.arguments import need_numbers
+from fewindexes.covers import fewest_chains, lots_apart
+from fewindexes.demands import need_demand
+from fewindexes.errors import BadPaper
+from fewindexes.joining import joined_index
+from fewindexes.kinds import is_indexes, is_numbers
+from fewindexes.lookups import do_two_fit
+from fewindexes.serving import serves
+
+
+def all_apart(lookups, numbers):
+    """Whether the LOOKUPS with these numbers are APART."""
+    for place, number in enumerate(numbers):
+        if any([do_two_fit(lookups[number], lookups[other]) for other in numbers[:place]]):
+            return False
+    return True
+
+
+def are_apart(demand, numbers):
+    """Whether the LOOKUPS with these numbers are APART."""
+    need_demand(demand)
+    need_numbers(demand, numbers)
+    return all_apart(demand[1], numbers)
+
+
+def fewest(demand):
+    """The least number of INDEXES such that each LOOKUP is served by one of them."""
+    need_demand(demand)
+    return len(fewest_chains(demand[1]))
+
+
+def fewest_paper(demand):
+    """A PAPER on FEWEST."""
+    _, lookups = need_demand(demand)
+    indexes = [joined_index([lookups[number] for number in chain]) for chain in fewest_chains(lookups)]
+    return (tuple(indexes), lots_apart(lookups)[0])
+
+
+def serve_all(columns, thing, lookups):
+    """Whether a thing is a tuple of at most 12 INDEXES such that each LOOKUP is served by one of them."""
+    if not is_indexes(columns, thing):
+        return False
+    return all([any([serves(index, lookup) for index in thing]) for lookup in lookups])
+
+
+def check_fewest(demand, paper):
+    """FEWEST, by a PAPER that holds."""
+    columns, lookups = need_demand(demand)
+    if type(paper) is not tuple or len(paper) != 2:
+        raise BadPaper("form")
+    indexes, numbers = paper
+    if not serve_all(columns, indexes, lookups):
+        raise BadPaper("indexes")
+    if not is_numbers(len(lookups), numbers) or numbers == () or not all_apart(lookups, numbers):
+        raise BadPaper("apart")
+    if len(indexes) != len(numbers):
+        raise BadPaper("count")
+    return len(numbers)

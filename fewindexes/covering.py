@@ -5,9 +5,9 @@ from fewindexes.covers import fewest_chains, lots_apart
 from fewindexes.demands import need_demand
 from fewindexes.errors import BadPaper
 from fewindexes.joining import joined_index
-from fewindexes.kinds import is_indexes, is_numbers
+from fewindexes.kinds import is_indexes, is_numbers, is_tuple
 from fewindexes.lookups import do_two_fit
-from fewindexes.serving import serves
+from fewindexes.serving import is_served
 
 
 def all_apart(lookups, numbers):
@@ -40,15 +40,13 @@ def fewest_paper(demand):
 
 def serve_all(columns, thing, lookups):
     """Whether a thing is a tuple of at most 12 INDEXES such that each LOOKUP is served by one of them."""
-    if not is_indexes(columns, thing):
-        return False
-    return all([any([serves(index, lookup) for index in thing]) for lookup in lookups])
+    return is_indexes(columns, thing) and all([is_served(thing, lookup) for lookup in lookups])
 
 
 def check_fewest(demand, paper):
     """FEWEST, by a PAPER that holds."""
     columns, lookups = need_demand(demand)
-    if type(paper) is not tuple or len(paper) != 2:
+    if not is_tuple(2, paper):
         raise BadPaper("form")
     indexes, numbers = paper
     if not serve_all(columns, indexes, lookups):

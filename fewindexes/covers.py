@@ -19,11 +19,11 @@ def find_follower(followers, leaders, number, tried):
     return False
 
 
-def led_chains(bare, leaders):
+def led_chains(numbers, leaders):
     """The list of chains of numbers, each number leading the one behind it."""
     behind = {leader: follower for follower, leader in leaders.items()}
     chains = []
-    for number in bare:
+    for number in numbers:
         if number not in leaders:
             chain = [number]
             while chain[-1] in behind:
@@ -32,22 +32,38 @@ def led_chains(bare, leaders):
     return chains
 
 
-def fewest_chains(lookups):
-    """A list of lists of the numbers of all BARE LOOKUPS, as few lists as can be, those in each one fitting.
+def chains_among(numbers, followers):
+    """The list of chains that numbers make, as few as can be; followers are told of these, and perhaps of others.
 
-    What is AHEAD of a second one is AHEAD of all that this is AHEAD of, so each
-    list is a chain, each LOOKUP AHEAD of the next one. The chains are fewest
-    where the pairs of neighbours are most: each LOOKUP has one follower at most,
-    and is the follower of one at most.
+    What follows a follower of a number follows the number itself, so the chains
+    are fewest where the pairs of neighbours are most: each number has one
+    follower at most, and is the follower of one at most.
     """
-    bare = bare_numbers(lookups)
-    followers = {}
-    for number in bare:
-        followers[number] = [other for other in bare if goes_ahead(lookups[number], lookups[other])]
     leaders = {}
-    for number in bare:
-        find_follower(followers, leaders, number, {})
-    return led_chains(bare, leaders)
+    ours = {number: [other for other in followers[number] if other in numbers] for number in numbers}
+    for number in numbers:
+        find_follower(ours, leaders, number, {})
+    return led_chains(numbers, leaders)
+
+
+def ahead_followers(lookups, bare):
+    """For each number of a BARE LOOKUP the list of the numbers of those that it is AHEAD of."""
+    return {number: [other for other in bare if goes_ahead(lookups[number], lookups[other])] for number in bare}
+
+
+def fewest_chains(lookups):
+    """A list of lists of the numbers of all BARE LOOKUPS, as few lists as can be, those in each one fitting."""
+    bare = bare_numbers(lookups)
+    return chains_among(bare, ahead_followers(lookups, bare))
+
+
+def heaviest_chain(followers, weights):
+    """The greatest sum of the weights of a chain, 0 of none; weights tell of each number one from 0 on."""
+    behind = {}
+    # what follows a number has fewer followers than it
+    for _, number in sorted([(len(others), number) for number, others in followers.items()]):
+        behind[number] = weights[number] + max([0, *[behind[other] for other in followers[number]]])
+    return max([0, *[behind[number] for number in behind]])
 
 
 def extended_lots(apart, lot, many):

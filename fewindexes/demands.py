@@ -2,13 +2,13 @@
 
 from fewindexes.arguments import need_columns
 from fewindexes.errors import BadDemand, BadLookup
-from fewindexes.kinds import is_columns, is_lookup
+from fewindexes.kinds import is_columns, is_lookup, is_tuple
 from fewindexes.lookups import bare_numbers, sets_in
 
 
 def need_demand(thing):
     """The thing itself, where it is a DEMAND."""
-    if type(thing) is not tuple or len(thing) != 2:
+    if not is_tuple(2, thing):
         raise BadDemand("form")
     columns, lookups = thing
     if not is_columns(columns):

@@ -8,19 +8,26 @@ def values_at(row, columns):
     return tuple([row[column] for column in columns])
 
 
+def can_part(ranks, others):
+    """Whether in some LISTING a row with one of the other ranks stands between rows with these.
+
+    Rows of equal ranks may stand in any turn, so two rows have between them, in
+    some LISTING, whatever is not less than the one by rank, nor greater than
+    the other one.
+    """
+    first, last = min(ranks), max(ranks)
+    return len(ranks) > 1 and any([first <= rank <= last for rank in others])
+
+
 def stand_together(groups):
     """Whether in each LISTING the rows of each group stand side by side.
 
     The groups are of rows alike at EQUAL, each row a pair of its rank by the
-    INDEX and its rank by SORT. Rows of equal ranks may stand in any turn, so
-    two of a group have between them, in some LISTING, whatever is not less
-    than the one by rank, nor greater than the other one.
+    INDEX and its rank by SORT.
     """
     for at, group in enumerate(groups):
-        ranks = [row[0] for row in group]
-        first, last = min(ranks), max(ranks)
         others = [row[0] for place, other in enumerate(groups) if place != at for row in other]
-        if len(ranks) > 1 and any([first <= rank <= last for rank in others]):
+        if can_part([row[0] for row in group], others):
             return False
     return True
 

@@ -27,6 +27,11 @@ def is_ascending(things):
     return all([things[at - 1] < things[at] for at in range(1, len(things))])
 
 
+def is_tuple(many, thing):
+    """Whether it is a tuple of so many things."""
+    return type(thing) is tuple and len(thing) == many
+
+
 def is_numbers(many, thing):
     """Whether it is an ascending tuple of numbers of so many items, perhaps ()."""
     if type(thing) is not tuple or not all([is_number(many, number) for number in thing]):
@@ -46,9 +51,7 @@ def is_way(thing):
 
 def is_step(columns, thing):
     """Whether it is a STEP of so many columns."""
-    if type(thing) is not tuple or len(thing) != 2:
-        return False
-    return is_number(columns, thing[0]) and is_way(thing[1])
+    return is_tuple(2, thing) and is_number(columns, thing[0]) and is_way(thing[1])
 
 
 def is_steps(columns, thing):
@@ -65,7 +68,7 @@ def is_index(columns, thing):
 
 def is_lookup(columns, thing):
     """Whether it is a LOOKUP of so many columns."""
-    if type(thing) is not tuple or len(thing) != 2:
+    if not is_tuple(2, thing):
         return False
     equal, sort = thing
     if not is_lot(columns, equal) or not is_steps(columns, sort):
@@ -77,7 +80,17 @@ def is_lookup(columns, thing):
 
 def is_integers(many, thing):
     """Whether it is a tuple of so many integers."""
-    return type(thing) is tuple and len(thing) == many and all([is_integer(part) for part in thing])
+    return is_tuple(many, thing) and all([is_integer(part) for part in thing])
+
+
+def are_amounts(many, thing):
+    """Whether it is a tuple of so many integers from 0 on."""
+    return is_integers(many, thing) and all([amount >= 0 for amount in thing])
+
+
+def are_worths(many, thing):
+    """Whether it is a tuple of so many integers from 0 to 1,000."""
+    return is_integers(many, thing) and all([0 <= worth <= 1000 for worth in thing])
 
 
 def is_table(columns, thing):
@@ -89,8 +102,35 @@ def is_table(columns, thing):
     return all([thing[at - 1] <= thing[at] for at in range(1, len(thing))])
 
 
+def are_indexes(columns, thing):
+    """Whether it is a tuple of any number of INDEXES, perhaps alike."""
+    return type(thing) is tuple and all([is_index(columns, index) for index in thing])
+
+
 def is_indexes(columns, thing):
     """Whether it is a tuple of at most 12 INDEXES, perhaps alike."""
-    if type(thing) is not tuple or len(thing) > 12:
+    return type(thing) is tuple and len(thing) <= 12 and are_indexes(columns, thing)
+
+
+def is_tell(columns, thing):
+    """Whether it is a pair (X, Y) of LOTS, Y not ()."""
+    return is_tuple(2, thing) and is_lot(columns, thing[0]) and is_lot(columns, thing[1]) and thing[1] != ()
+
+
+def is_need(columns, thing):
+    """Whether it is a NEED of so many columns."""
+    if type(thing) is not tuple or not 1 <= len(thing) <= 24:
         return False
-    return all([is_index(columns, index) for index in thing])
+    return all([is_lookup(columns, lookup) for lookup in thing]) and is_ascending(thing)
+
+
+def is_part(columns, thing):
+    """Whether it is a PART of so many columns."""
+    if not is_tuple(4, thing):
+        return False
+    equal, between, together, sort = thing
+    if not is_lot(columns, equal) or not is_lot(columns, together) or not is_steps(columns, sort):
+        return False
+    if between is not None and not is_number(columns, between):
+        return False
+    return len(together) <= 3 and not any([column in (between, *together, *columns_of(sort)) for column in equal])

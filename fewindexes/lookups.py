@@ -17,29 +17,6 @@ def all_are_in(steps, others):
     return all([step in others for step in turned_steps(steps)])
 
 
-def lies_within(one, other):
-    """Whether the LOOKUP one is WITHIN the LOOKUP other, by the Fact."""
-    theirs = sets_in(other)
-    if any([lot != () and lot not in theirs for lot in sets_in(one)]):
-        return False
-    # by one STEP alone any WAY is had by an INDEX read this way about or the other
-    return len(one[1]) < 2 or all_are_in(one[1], other[1])
-
-
-def is_bare(lookups, number):
-    """Whether the LOOKUP with the number is BARE among all of them."""
-    for place, other in enumerate(lookups):
-        if place != number and lies_within(lookups[number], other):
-            if place < number or not lies_within(other, lookups[number]):
-                return False
-    return True
-
-
-def bare_numbers(lookups):
-    """The list of the numbers of the BARE ones, ascending."""
-    return [number for number in range(len(lookups)) if is_bare(lookups, number)]
-
-
 def set_bits(lookup):
     """The list of the SETS of a LOOKUP as integers, each with a bit for each column."""
     equal, sort = lookup
@@ -47,6 +24,43 @@ def set_bits(lookup):
     for column in columns_of(sort):
         found.append(found[-1] + (1 << column))
     return found
+
+
+def sets_form(lookup):
+    """The pair of the SETS of a LOOKUP, as set_bits tells them, and of its SORT."""
+    return set_bits(lookup), lookup[1]
+
+
+def is_form_within(one, other):
+    """Whether a LOOKUP with the form one is WITHIN a LOOKUP with the form other, by the Fact."""
+    if any([bits != 0 and bits not in other[0] for bits in one[0]]):
+        return False
+    # by one STEP alone any WAY is had by an INDEX read this way about or the other
+    return len(one[1]) < 2 or all_are_in(one[1], other[1])
+
+
+def lies_within(one, other):
+    """Whether the LOOKUP one is WITHIN the LOOKUP other."""
+    return is_form_within(sets_form(one), sets_form(other))
+
+
+def is_outer(things, is_inside, number):
+    """Whether the thing with the number is inside no other one but such as come behind it and are inside it, too."""
+    for place, other in enumerate(things):
+        if place != number and is_inside(things[number], other):
+            if place < number or not is_inside(other, things[number]):
+                return False
+    return True
+
+
+def outer_numbers(things, is_inside):
+    """The list of the numbers of the outer ones among things, ascending."""
+    return [number for number in range(len(things)) if is_outer(things, is_inside, number)]
+
+
+def bare_numbers(lookups):
+    """The list of the numbers of the BARE ones, ascending."""
+    return outer_numbers([sets_form(lookup) for lookup in lookups], is_form_within)
 
 
 def clashing_sets(one, other):

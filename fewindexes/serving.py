@@ -36,6 +36,11 @@ def serves(index, lookup):
     return way_in(index, lookup) is not None
 
 
+def is_served(indexes, lookup):
+    """Whether one of the INDEXES SERVES the LOOKUP."""
+    return any([serves(index, lookup) for index in indexes])
+
+
 def short_indexes(lookup):
     """Some of the shortest INDEXES that serve a LOOKUP: each column of EQUAL is first in two, with either WAY."""
     equal, sort = lookup

@@ -1,5 +1,6 @@
 """Small INDEXES, LOOKUPS and TABLES, all that there are, and the definitions of DOC.md tried on them as they stand."""
 
+from functools import lru_cache
 from itertools import combinations, combinations_with_replacement, permutations, product
 from random import Random
 
@@ -215,3 +216,72 @@ def greatest_by_all(demand):
     lots = lots_by_all(demand)
     most = max(len(lot) for lot in lots)
     return tuple(sorted(lot for lot in lots if len(lot) == most))
+
+
+def is_within_by_all(one, other, served):
+    """Point 6: whether each INDEX that serves the LOOKUP other serves the LOOKUP one."""
+    return served[other] <= served[one]
+
+
+def bare_by_all(demand, served):
+    """Point 8: the numbers of the BARE LOOKUPS."""
+    lookups = list(enumerate(demand[1]))
+    return [at for at, one in lookups
+            if not any(at != place and is_within_by_all(one, other, served)
+                       and not (place > at and is_within_by_all(other, one, served)) for place, other in lookups)]
+
+
+def ahead_by_all(demand, served):
+    """Point 8: the pairs of numbers of BARE LOOKUPS, the one AHEAD of the other."""
+    bare = bare_by_all(demand, served)
+    lookups = demand[1]
+    return {(one, other) for one in bare for other in bare
+            if one != other and served[lookups[one]] & served[lookups[other]]
+            and len(lookups[one][0]) < len(lookups[other][0])}
+
+
+def masks_by_all(demand, served):
+    """For each INDEX that serves any LOOKUP of a DEMAND those that it serves, a bit for each."""
+    masks = {}
+    for number, indexes in enumerate(served_sets(demand, served)):
+        for index in indexes:
+            masks[index] = masks.get(index, 0) | 1 << number
+    return masks
+
+
+def reached_masks(kinds, many):
+    """What one, two and so on of some kinds of masks have together: a set for each number."""
+    reached, found = {0}, []
+    for _ in range(many):
+        reached = {mask | kind for mask in reached for kind in kinds} | reached
+        found.append(reached)
+    return found
+
+
+def are_amounts(thing, many, most=None):
+    """Whether a thing, of any kind, is a tuple of so many integers from 0 on."""
+    if type(thing) is not tuple or len(thing) != many:
+        return False
+    return all(type(part) is int and part >= 0 and (most is None or part <= most) for part in thing)
+
+
+def are_indexes(thing, columns, most=None):
+    """Whether a thing, of any kind, is a tuple of INDEXES, at most so many."""
+    if type(thing) is not tuple or most is not None and len(thing) > most:
+        return False
+    return all(is_plain(index) and repr(index) in known_indexes(columns) for index in thing)
+
+
+@lru_cache(None)
+def known_indexes(columns):
+    """All INDEXES, as they are written."""
+    return set(map(repr, all_indexes(columns)))
+
+
+def is_plain(thing):
+    """Whether a thing is made of tuples, integers and strings alone."""
+    return all(map(is_plain, thing)) if type(thing) is tuple else type(thing) in (int, str)
+
+
+# Things of other kinds, those that break what compares or orders them among them.
+THORNS = ODD_THINGS + (Oddity(), Thorny())

@@ -14,6 +14,11 @@ DEMAND = (3, tuple(sorted([LOOKUP, OTHER, ((0, 2), ()), ((1,), ((0, "up"), (2, "
 
 PAIR = (2, (((0,), ()), ((1,), ())))
 TABLE = ((0, 1, 2), (0, 1, 2), (0, 2, 0), (1, 0, 0))
+STOCK = (((0, "up"),), ((1, "up"), (2, "down")))
+TELLS = (((), (2,)), ((0,), (1,)))
+NEEDS = ((((0,), ()), ((0, 1), ())), (((1,), ()), ((2,), ())))
+PART = ((0,), 1, (1,), ((1, "down"), (2, "up")))
+TERM = ("either", ("sorted", ("equal", ("rows",), 0), ((1, "up"),)), ("grouped", ("rows",), (0, 1)))
 
 # Of each function its file, its name, and right arguments by the names that the interface tells.
 CALLS = [
@@ -47,7 +52,55 @@ CALLS = [
     ("aparts", "greatest_lots", {"demand": DEMAND}),
     ("aparts", "critical", {"demand": DEMAND}),
     ("aparts", "needs_more", {"demand": DEMAND, "lookup": ((2,), ())}),
+    ("prices", "cost_of", {"columns": 3, "prices": (1, 0, 5), "indexes": (INDEX, INDEX)}),
+    ("prices", "least_cost", {"demand": DEMAND, "prices": (1, 0, 5)}),
+    ("prices", "cost_paper", {"demand": DEMAND, "prices": (1, 0, 5)}),
+    ("prices", "check_cost", {"demand": PAIR, "prices": (1, 2), "paper": (((STEP_UP,), (STEP_DOWN,)), (0, 0), (0, 0))}),
+    ("bests", "best_sum", {"demand": PAIR, "worths": (4, 5), "k": 1}),
+    ("bests", "best_sums", {"demand": PAIR, "worths": (4, 5)}),
+    ("bests", "best_paper", {"demand": PAIR, "worths": (4, 5), "k": 1}),
+    ("bests", "check_best", {"demand": PAIR, "worths": (4, 5), "k": 1, "paper": (((STEP_DOWN,),), 5, (0, 0))}),
+    ("stock", "lost", {"demand": DEMAND, "stock": STOCK}),
+    ("stock", "is_idle", {"demand": DEMAND, "stock": STOCK, "number": 1}),
+    ("stock", "is_in", {"columns": 3, "one": INDEX[:2], "other": INDEX}),
+    ("stock", "trimmed", {"demand": DEMAND, "index": INDEX}),
+    ("stock", "least_add", {"demand": DEMAND, "stock": STOCK}),
+    ("stock", "add_paper", {"demand": DEMAND, "stock": STOCK}),
+    ("stock", "check_add", {"demand": PAIR, "stock": ((STEP_UP,),), "paper": (((STEP_DOWN,),), (1,))}),
+    ("stock", "best_change", {"demand": DEMAND, "stock": STOCK}),
+    ("tells", "need_tells", {"columns": 3, "thing": TELLS}),
+    ("tells", "closure", {"columns": 3, "tells": TELLS, "lot": (0,)}),
+    ("tells", "does_obey", {"columns": 3, "tells": TELLS, "table": TABLE}),
+    ("tells", "cut_steps", {"columns": 3, "tells": TELLS, "lookup": OTHER}),
+    ("tells", "closed_sets", {"columns": 3, "tells": TELLS, "lookup": OTHER}),
+    ("under", "way_under", {"columns": 3, "tells": TELLS, "index": INDEX, "lookup": OTHER}),
+    ("under", "under_paper", {"columns": 3, "tells": TELLS, "index": INDEX, "lookup": ((1,), ())}),
+    ("under", "check_under", {"columns": 3, "tells": TELLS, "index": INDEX, "lookup": OTHER, "paper": ("forward",)}),
+    ("under", "do_fit_under", {"demand": DEMAND, "tells": TELLS, "numbers": (0, 2)}),
+    ("under", "index_under", {"demand": DEMAND, "tells": TELLS, "numbers": (0, 2)}),
+    ("fewunder", "fewest_under", {"demand": DEMAND, "tells": TELLS}),
+    ("fewunder", "fewunder_paper", {"demand": DEMAND, "tells": TELLS}),
+    ("fewunder", "check_fewunder", {"demand": PAIR, "tells": (), "paper": (((STEP_UP,), (STEP_DOWN,)), (0, 1))}),
+    ("needs", "do_meet", {"columns": 3, "needs": NEEDS, "indexes": STOCK}),
+    ("needs", "least_for", {"columns": 3, "needs": NEEDS}),
+    ("needs", "needs_paper", {"columns": 3, "needs": NEEDS[:1] * 2 + (NEEDS[0][:1], (((1,), ()),))}),
+    ("needs", "check_needs", {"columns": 3, "needs": ((((0,), ()),), (((1,), ()), ((1,), ((2, "up"),)))),
+                              "paper": (STOCK, ("need", 0, (("need", 1, (("most", (0, 1)), ("most", (0, 1)))),)))}),
+    ("parts", "need_part", {"columns": 3, "thing": PART}),
+    ("parts", "lookups_for", {"columns": 3, "part": PART}),
+    ("parts", "is_hard", {"columns": 3, "part": PART}),
+    ("parts", "does_do", {"columns": 3, "index": INDEX, "part": PART}),
+    ("parts", "is_done", {"columns": 3, "table": TABLE, "index": INDEX, "part": PART}),
+    ("parts", "undone_table", {"columns": 3, "index": INDEX[::-1], "part": PART}),
+    ("terms", "need_term", {"columns": 3, "thing": TERM}),
+    ("terms", "parts_of", {"columns": 3, "term": TERM}),
+    ("terms", "kids_of", {"columns": 3, "term": TERM}),
+    ("terms", "choices_of", {"columns": 3, "term": TERM}),
+    ("terms", "doers", {"columns": 3, "term": TERM, "indexes": (INDEX, INDEX[1:])}),
 ]
+
+# Of what () may be passed as.
+MAY_BE_NONE = ("table", "stock", "tells", "lot", "indexes")
 
 # What is refused, and could be changed by a careless program.
 SOFT = [[], [3, [((0,), ())]], {}, {0: [1]}, ["within"], ([0], []), ([], {}), [[0, "up"]], (3, [((0,), ())])]
@@ -93,7 +146,8 @@ class Calls(unittest.TestCase):
         for name, call, given in self.each():
             for at, wanted in enumerate(given):
                 for thing in (None, -1, True, "x", [], {}, (), ((),), (None,), 3.5j, Oddity(), Thorny(), (Thorny(),)):
-                    if type(thing) is tuple and not thing and (wanted == "table" or name == "need_table"):
+                    empty = type(thing) is tuple and not thing
+                    if empty and (wanted in MAY_BE_NONE or name in ("need_table", "need_tells")):
                         continue
                     told = error_of(call, *[thing if place == at else right
                                             for place, right in enumerate(given.values())])

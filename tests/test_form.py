@@ -24,6 +24,24 @@ INTERFACE = {
                "check_fit(demand,numbers,paper) is_ahead(demand,one,other)",
     "covering": "are_apart(demand,numbers) fewest(demand) fewest_paper(demand) check_fewest(demand,paper)",
     "aparts": "greatest_lots(demand) critical(demand) needs_more(demand,lookup)",
+    "prices": "cost_of(columns,prices,indexes) least_cost(demand,prices) cost_paper(demand,prices) "
+              "check_cost(demand,prices,paper)",
+    "bests": "best_sum(demand,worths,k) best_sums(demand,worths) best_paper(demand,worths,k) "
+             "check_best(demand,worths,k,paper)",
+    "stock": "lost(demand,stock) is_idle(demand,stock,number) is_in(columns,one,other) trimmed(demand,index) "
+             "least_add(demand,stock) add_paper(demand,stock) check_add(demand,stock,paper) best_change(demand,stock)",
+    "tells": "need_tells(columns,thing) closure(columns,tells,lot) does_obey(columns,tells,table) "
+             "cut_steps(columns,tells,lookup) closed_sets(columns,tells,lookup)",
+    "under": "way_under(columns,tells,index,lookup) under_paper(columns,tells,index,lookup) "
+             "check_under(columns,tells,index,lookup,paper) do_fit_under(demand,tells,numbers) "
+             "index_under(demand,tells,numbers)",
+    "fewunder": "fewest_under(demand,tells) fewunder_paper(demand,tells) check_fewunder(demand,tells,paper)",
+    "needs": "do_meet(columns,needs,indexes) least_for(columns,needs) needs_paper(columns,needs) "
+             "check_needs(columns,needs,paper)",
+    "parts": "need_part(columns,thing) lookups_for(columns,part) is_hard(columns,part) does_do(columns,index,part) "
+             "is_done(columns,table,index,part) undone_table(columns,index,part)",
+    "terms": "need_term(columns,thing) parts_of(columns,term) kids_of(columns,term) choices_of(columns,term) "
+             "doers(columns,term,indexes)",
 }
 
 STATEMENTS = (ast.FunctionDef, ast.ClassDef, ast.Return, ast.Assign, ast.For, ast.While, ast.If, ast.Raise,
@@ -31,13 +49,15 @@ STATEMENTS = (ast.FunctionDef, ast.ClassDef, ast.Return, ast.Assign, ast.For, as
 EXPRESSIONS = (ast.BoolOp, ast.BinOp, ast.UnaryOp, ast.IfExp, ast.Dict, ast.ListComp, ast.DictComp, ast.Compare,
                ast.Call, ast.Constant, ast.Attribute, ast.Subscript, ast.Starred, ast.Name, ast.List, ast.Tuple,
                ast.Slice)
-OPERATORS = (ast.And, ast.Or, ast.Add, ast.Sub, ast.Mult, ast.LShift, ast.BitAnd, ast.Not, ast.USub, ast.Eq, ast.NotEq,
+OPERATORS = (ast.And, ast.Or, ast.Add, ast.Sub, ast.Mult, ast.FloorDiv, ast.LShift, ast.BitAnd, ast.BitOr, ast.BitXor,
+             ast.Not, ast.USub, ast.Eq, ast.NotEq,
              ast.Lt, ast.LtE, ast.Gt, ast.GtE, ast.Is, ast.IsNot, ast.In, ast.NotIn)
 PARTS = (ast.Module, ast.arguments, ast.arg, ast.alias, ast.comprehension, ast.Load, ast.Store)
 CALLED = {"len", "range", "enumerate", "sum", "sorted", "tuple", "list", "dict", "set", "any", "all", "min", "max",
-          "type"}
-ITERATED_AT_ONCE = {"range", "enumerate"}
-METHODS = {"append", "extend", "get", "setdefault", "items", "values"}
+          "type", "zip"}
+ITERATED_AT_ONCE = {"range", "enumerate", "zip"}
+VIEWS = {"items", "values"}
+METHODS = {"append", "extend", "get", "setdefault", "pop", "index"} | VIEWS
 NEVER_IN_A_FILE = {"typing", "typing_extensions", "enum", "Enum", "IntEnum", "StrEnum", "Flag", "IntFlag", "Generic",
                    "Protocol", "ABC", "ABCMeta", "namedtuple", "NamedTuple", "TypedDict", "TYPE_CHECKING",
                    "abstractmethod", "dataclass", "overload", "contextmanager", "_wall", "_WallAttr", "global",
@@ -126,7 +146,7 @@ class Nodes(unittest.TestCase):
                 if isinstance(node, ast.Assign):
                     self.assertEqual(len(node.targets), 1)
                     self.assertIsInstance(node.targets[0], ast.Name)
-                    self.assertIsInstance(node.value, (ast.Constant, ast.Tuple), name)
+                    self.assertIsInstance(node.value, (ast.Constant, ast.Tuple, ast.Dict), name)
                     ast.literal_eval(node.value)
 
     def test_calls(self):
@@ -154,12 +174,18 @@ class Nodes(unittest.TestCase):
         if isinstance(child, ast.Call) and isinstance(child.func, ast.Name):
             told = child.func.id
             if told in ITERATED_AT_ONCE:
-                self.assertTrue(isinstance(node, (ast.For, ast.comprehension)) and field == "iter", (name, told))
+                listed = isinstance(node, ast.Call) and ast.unparse(node.func) == "list"
+                looped = isinstance(node, (ast.For, ast.comprehension)) and field == "iter"
+                self.assertTrue(listed or looped, (name, told))
             if told == "set":
-                self.assertEqual(ast.unparse(node.func) if isinstance(node, ast.Call) else None, "len", name)
+                self.assertIn(ast.unparse(node.func) if isinstance(node, ast.Call) else None, ("len", "sorted"), name)
             if told == "type":
                 self.assertTrue(isinstance(node, ast.Compare) and isinstance(node.ops[0], (ast.Is, ast.IsNot)))
                 self.assertIn(ast.unparse(node.comparators[0]), ("int", "str", "tuple"), name)
+        if isinstance(child, ast.Call) and isinstance(child.func, ast.Attribute) and child.func.attr in VIEWS:
+            listed = isinstance(node, ast.Call) and ast.unparse(node.func) in ("list", "enumerate")
+            looped = isinstance(node, (ast.For, ast.comprehension)) and field == "iter"
+            self.assertTrue(listed or looped, (name, child.func.attr))
         if isinstance(child, ast.Name) and child.id in dir(builtins) and isinstance(child.ctx, ast.Load):
             called = isinstance(node, ast.Call) and field == "func"
             kind = isinstance(node, ast.Compare) and field == "comparators" and child.id in ("int", "str", "tuple")
@@ -242,8 +268,8 @@ class Names(unittest.TestCase):
                     self.assertRegex(node.module, r"^fewindexes\.[a-z]+$")
                     other = node.module.split(".")[1]
                     asked[name].append(other)
-                    defined = {part.name for part in trees[other].body
-                               if isinstance(part, (ast.FunctionDef, ast.ClassDef))}
+                    defined = {told for part in trees[other].body if not isinstance(part, ast.ImportFrom)
+                               for told in ([part.name] if hasattr(part, "name") else bound_names(part))}
                     for alias in node.names:
                         self.assertIsNone(alias.asname)
                         self.assertIn(alias.name, defined, (name, other))

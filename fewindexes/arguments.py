@@ -1,7 +1,7 @@
 """What is refused of arguments that many functions have."""
 
 from fewindexes.errors import BadIndex, BadIndexes, BadNumber, BadNumbers, BadPrices, BadStock, BadWorths
-from fewindexes.kinds import are_worths, is_columns, is_index, is_integer, is_numbers
+from fewindexes.kinds import are_worths, first_wrong, is_columns, is_index, is_integer, is_numbers
 
 
 def need_columns(thing):
@@ -63,9 +63,7 @@ def need_stock(columns, thing):
     """The thing itself, where it is a STOCK of columns that are known to be right."""
     if type(thing) is not tuple or len(thing) > 8:
         raise BadStock(None)
-    for number, index in enumerate(thing):
-        if not is_index(columns, index):
-            raise BadStock(number)
-        if number > 0 and not thing[number - 1] < index:
-            raise BadStock(number)
+    number = first_wrong(columns, thing, is_index)
+    if number is not None:
+        raise BadStock(number)
     return thing

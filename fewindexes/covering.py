@@ -6,16 +6,13 @@ from fewindexes.demands import need_demand
 from fewindexes.errors import BadPaper
 from fewindexes.joining import joined_index
 from fewindexes.kinds import is_indexes, is_numbers, is_tuple
-from fewindexes.lookups import do_two_fit
+from fewindexes.lookups import do_two_fit, no_two
 from fewindexes.serving import is_served
 
 
 def all_apart(lookups, numbers):
     """Whether the LOOKUPS with these numbers are APART."""
-    for place, number in enumerate(numbers):
-        if any([do_two_fit(lookups[number], lookups[other]) for other in numbers[:place]]):
-            return False
-    return True
+    return no_two([lookups[number] for number in numbers], do_two_fit)
 
 
 def are_apart(demand, numbers):

@@ -2,7 +2,7 @@
 
 from fewindexes.arguments import need_columns
 from fewindexes.errors import BadDemand, BadLookup
-from fewindexes.kinds import is_columns, is_lookup, is_tuple
+from fewindexes.kinds import first_wrong, is_columns, is_lookup, is_tuple
 from fewindexes.lookups import bare_numbers, sets_in
 
 
@@ -15,11 +15,9 @@ def need_demand(thing):
         raise BadDemand("columns")
     if type(lookups) is not tuple or not 1 <= len(lookups) <= 12:
         raise BadDemand("lookups")
-    for number, lookup in enumerate(lookups):
-        if not is_lookup(columns, lookup):
-            raise BadDemand(number)
-        if number > 0 and not lookups[number - 1] < lookup:
-            raise BadDemand(number)
+    number = first_wrong(columns, lookups, is_lookup)
+    if number is not None:
+        raise BadDemand(number)
     return thing
 
 

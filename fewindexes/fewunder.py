@@ -4,6 +4,7 @@ from fewindexes.covers import extended_lots
 from fewindexes.demands import need_demand
 from fewindexes.errors import BadPaper
 from fewindexes.kinds import are_indexes, is_numbers, is_tuple
+from fewindexes.lookups import no_two
 from fewindexes.telling import told_form
 from fewindexes.tells import need_tells
 from fewindexes.underfitting import do_forms_fit, joined_under, under_chains
@@ -39,14 +40,6 @@ def serve_all_under(tells, indexes, lookups):
     return True
 
 
-def forms_apart(forms):
-    """Whether no two LOOKUPS with these forms fit UNDER TELLS."""
-    for place, form in enumerate(forms):
-        if any([do_forms_fit(form, other) for other in forms[:place]]):
-            return False
-    return True
-
-
 def check_fewunder(demand, tells, paper):
     """The least number, by a PAPER that holds."""
     forms = forms_of(demand, tells)
@@ -58,6 +51,6 @@ def check_fewunder(demand, tells, paper):
         raise BadPaper("indexes")
     if not is_numbers(len(lookups), numbers) or len(numbers) != len(indexes):
         raise BadPaper("numbers")
-    if not forms_apart([forms[number] for number in numbers]):
+    if not no_two([forms[number] for number in numbers], do_forms_fit):
         raise BadPaper("numbers")
     return len(numbers)

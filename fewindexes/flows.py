@@ -19,16 +19,14 @@ def chain_net(worths, followers, many):
     """The net in which so many chains can flow.
 
     The number at a place has two nodes. From the one to the other an arc, all
-    of which come first, can be gone once for its worth; another one goes by.
-    All others have more room than can ever flow, so that what bounds them is
-    told by their gains alone.
+    of which come first, can be gone once for its worth. All others have more
+    room than can ever flow, so that what bounds them is told by gains alone.
     """
     net, room = [], many + 1
     for place, worth in enumerate(worths):
         put_arc(net, 2 * place + 2, 2 * place + 3, 1, worth)
     for place in range(len(worths)):
         put_arc(net, SOURCE, 2 * place + 2, room, 0)
-        put_arc(net, 2 * place + 2, 2 * place + 3, room, 0)
         put_arc(net, 2 * place + 3, SINK, room, 0)
         for other in followers[place]:
             put_arc(net, 2 * place + 3, 2 * other + 2, room, 0)
@@ -81,7 +79,10 @@ def best_few(worths, followers, many):
 
     A quadruple: the list of the best sums for 1, 2 chains and so on; the list
     of the chains; TOLL and the list of REBATES: what a chain gains beyond the
-    rebates is at most TOLL.
+    rebates is at most TOLL. A rebate is what a worth is more than best ways gain
+    from the one node of a place to the other one. This is from 0 to the worth:
+    what flows through can be turned back there, and, as what follows a follower
+    follows, can as well go past.
     """
     net = chain_net(worths, followers, many)
     sums = []
@@ -94,5 +95,5 @@ def best_few(worths, followers, many):
     chains = [flowing_chain(net, flows, len(worths)) for _ in range(many)]
     rebates = []
     for place, worth in enumerate(worths):
-        rebates.append(max(0, worth - gains[2 * place + 3] + gains[2 * place + 2]))
+        rebates.append(worth - gains[2 * place + 3] + gains[2 * place + 2])
     return sums, [chain for chain in chains if chain != []], gains[SINK], rebates

@@ -1,15 +1,12 @@
 """One INDEX for several LOOKUPS; all that is passed is known to be right."""
 
-from fewindexes.lookups import do_two_fit, sets_in
+from fewindexes.lookups import do_two_fit, each_two, sets_in
 from fewindexes.steps import turned_way
 
 
 def do_all_fit(lookups):
     """Whether the LOOKUPS fit: each two of them do."""
-    for place, lookup in enumerate(lookups):
-        if not all([do_two_fit(lookup, other) for other in lookups[:place]]):
-            return False
-    return True
+    return each_two(lookups, do_two_fit)
 
 
 def columns_in_turn(lookups):

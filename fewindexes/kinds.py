@@ -32,6 +32,19 @@ def is_tuple(many, thing):
     return type(thing) is tuple and len(thing) == many
 
 
+def first_wrong(columns, things, is_right):
+    """The number of the first of some things that is not right of so many columns, or not greater than the one ahead.
+
+    None where all are right, and ascending.
+    """
+    for number, thing in enumerate(things):
+        if not is_right(columns, thing):
+            return number
+        if number > 0 and not things[number - 1] < thing:
+            return number
+    return None
+
+
 def is_numbers(many, thing):
     """Whether it is an ascending tuple of numbers of so many items, perhaps ()."""
     if type(thing) is not tuple or not all([is_number(many, number) for number in thing]):
@@ -121,7 +134,7 @@ def is_need(columns, thing):
     """Whether it is a NEED of so many columns."""
     if type(thing) is not tuple or not 1 <= len(thing) <= 24:
         return False
-    return all([is_lookup(columns, lookup) for lookup in thing]) and is_ascending(thing)
+    return first_wrong(columns, thing, is_lookup) is None
 
 
 def is_part(columns, thing):

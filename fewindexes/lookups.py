@@ -44,6 +44,22 @@ def lies_within(one, other):
     return is_form_within(sets_form(one), sets_form(other))
 
 
+def each_two(things, are_so):
+    """Whether each two of some things are so."""
+    for place, thing in enumerate(things):
+        if not all([are_so(thing, other) for other in things[:place]]):
+            return False
+    return True
+
+
+def no_two(things, are_so):
+    """Whether no two of some things are so."""
+    for place, thing in enumerate(things):
+        if any([are_so(thing, other) for other in things[:place]]):
+            return False
+    return True
+
+
 def is_outer(things, is_inside, number):
     """Whether the thing with the number is inside no other one but such as come behind it and are inside it, too."""
     for place, other in enumerate(things):

@@ -6,7 +6,7 @@ from fewindexes.covers import fewest_chains
 from fewindexes.errors import BadNeeds, BadPaper, TooMany
 from fewindexes.joining import joined_index
 from fewindexes.kinds import are_indexes, is_need, is_number, is_numbers, is_tuple
-from fewindexes.lookups import do_two_fit
+from fewindexes.lookups import do_two_fit, no_two
 from fewindexes.serving import is_served
 
 
@@ -78,8 +78,7 @@ def most_holds(needs, many, chosen, numbers):
         return False
     if not all([number in chosen for number in numbers]):
         return False
-    lookups = [chosen[number] for number in numbers]
-    return not any([do_two_fit(one, other) for place, one in enumerate(lookups) for other in lookups[:place]])
+    return no_two([chosen[number] for number in numbers], do_two_fit)
 
 
 def tree_holds(needs, many, chosen, tree):

@@ -56,10 +56,9 @@ def unserved_lookup(index, part):
 
 def way_done(index, part):
     """The first way that the INDEX does the PART, or None."""
-    equal, _, _, sort = part
     if unserved_lookup(index, part) is not None:
         return None
-    return way_in(index, (equal, sort)) if sort != () else "forward"
+    return way_in(index, (part[0], part[3]))
 
 
 def parting_table(columns, index, part):

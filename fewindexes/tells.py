@@ -3,7 +3,7 @@
 from fewindexes.arguments import need_columns
 from fewindexes.demands import need_lookup
 from fewindexes.errors import BadLot, BadTells
-from fewindexes.kinds import is_lot, is_tell
+from fewindexes.kinds import first_wrong, is_lot, is_tell
 from fewindexes.tables import need_table
 from fewindexes.telling import bits_of, closed_bits, columns_in, obeys, told_form
 
@@ -13,11 +13,9 @@ def need_tells(columns, thing):
     need_columns(columns)
     if type(thing) is not tuple or len(thing) > 8:
         raise BadTells(None)
-    for number, tell in enumerate(thing):
-        if not is_tell(columns, tell):
-            raise BadTells(number)
-        if number > 0 and not thing[number - 1] < tell:
-            raise BadTells(number)
+    number = first_wrong(columns, thing, is_tell)
+    if number is not None:
+        raise BadTells(number)
     return thing
 
 

@@ -5,11 +5,12 @@ from fewindexes.demands import need_demand, need_lookup
 from fewindexes.errors import BadPaper
 from fewindexes.indexes import need_index
 from fewindexes.kinds import is_table
+from fewindexes.lookups import each_two
 from fewindexes.papers import paper_word
 from fewindexes.tables import SERVE_FORMS
 from fewindexes.tells import need_tells
 from fewindexes.telling import told_form
-from fewindexes.underfitting import do_all_forms_fit, joined_under
+from fewindexes.underfitting import do_forms_fit, joined_under
 from fewindexes.underserving import all_keep_under, parts_under, unkept_under, way_told
 
 
@@ -57,10 +58,10 @@ def forms_at(demand, tells, numbers):
 
 def do_fit_under(demand, tells, numbers):
     """Whether the LOOKUPS with these numbers fit under TELLS."""
-    return do_all_forms_fit(forms_at(demand, tells, numbers))
+    return each_two(forms_at(demand, tells, numbers), do_forms_fit)
 
 
 def index_under(demand, tells, numbers):
     """An INDEX that serves the LOOKUPS with these numbers UNDER TELLS, or None."""
     forms = forms_at(demand, tells, numbers)
-    return joined_under(tells, forms) if do_all_forms_fit(forms) else None
+    return joined_under(tells, forms) if each_two(forms, do_forms_fit) else None

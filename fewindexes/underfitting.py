@@ -40,23 +40,16 @@ def do_forms_fit(one, other):
     return clashing_columns(one, other) is None
 
 
-def do_all_forms_fit(forms):
-    """Whether LOOKUPS with these forms fit UNDER TELLS: each two of them do."""
-    for place, form in enumerate(forms):
-        if not all([do_forms_fit(form, other) for other in forms[:place]]):
-            return False
-    return True
-
-
 def is_stretched(one, other):
-    """Whether a LOOKUP with the form one is a STRETCH of a LOOKUP with the form other."""
+    """Whether a LOOKUP with the form one is a STRETCH of a LOOKUP with the form other.
+
+    The CLOSED SETS behind the first one hang on it and on the columns of the CUT alone.
+    """
     closed, cut = one
     others, steps = other
     if closed[0] not in others:
         return False
     at = others.index(closed[0])
-    if others[at:at + len(closed)] != closed:
-        return False
     return steps[at:at + len(cut)] in (cut, turned_steps(cut))
 
 

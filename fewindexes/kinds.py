@@ -147,3 +147,8 @@ def is_part(columns, thing):
     if between is not None and not is_number(columns, between):
         return False
     return len(together) <= 3 and not any([column in (between, *together, *columns_of(sort)) for column in equal])
+
+
+def is_name(thing):
+    """Whether it is a NAME."""
+    return type(thing) is str and 1 <= len(thing) <= 8 and all(["a" <= sign <= "z" for sign in thing])

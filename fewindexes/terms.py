@@ -2,8 +2,8 @@
 
 from fewindexes.arguments import need_columns, need_told_indexes
 from fewindexes.errors import BadTerm
-from fewindexes.parting import FREE, part_lookups, way_done
-from fewindexes.wording import has_columns, has_form, kids_in, parts_in
+from fewindexes.parting import part_lookups, way_done
+from fewindexes.wording import bound_parts, has_columns, has_form, kids_in, parts_in
 
 
 def need_term(columns, thing):
@@ -42,7 +42,7 @@ def kids_of(columns, term):
 def choices_of(columns, term):
     """The tuple with the LOOKUPS of each PART of a TERM that is not free, () for a hard one."""
     need_term(columns, term)
-    return tuple([part_lookups(part) for part in parts_in(term) if part != FREE])
+    return tuple([part_lookups(part) for part in bound_parts(term)])
 
 
 def first_doer(indexes, part):

@@ -71,3 +71,8 @@ def parts_in(term):
     if term[0] == "either":
         return parts_in(term[1]) + parts_in(term[2])
     return tuple([changed_part(term, part) for part in parts_in(term[1])])
+
+
+def bound_parts(term):
+    """The list of the PARTS of a TERM that are not free."""
+    return [part for part in parts_in(term) if part != FREE]

@@ -97,6 +97,11 @@ CALLS = [
     ("terms", "kids_of", {"columns": 3, "term": TERM}),
     ("terms", "choices_of", {"columns": 3, "term": TERM}),
     ("terms", "doers", {"columns": 3, "term": TERM, "indexes": (INDEX, INDEX[1:])}),
+    ("texts", "term_text", {"columns": 3, "term": TERM}),
+    ("texts", "index_text", {"columns": 3, "index": INDEX}),
+    ("texts", "read_term", {"columns": 3, "text": "either rows sorted 1 2 up rows"}),
+    ("texts", "read_index", {"columns": 3, "text": "2 up 0 down"}),
+    ("judge", "judged", {"text": "3\neither rows sorted 1 2 up rows\nfree 0\ndoes 1 2 down"}),
 ]
 
 # Of what () may be passed as.

@@ -42,22 +42,35 @@ INTERFACE = {
              "is_done(columns,table,index,part) undone_table(columns,index,part)",
     "terms": "need_term(columns,thing) parts_of(columns,term) kids_of(columns,term) choices_of(columns,term) "
              "doers(columns,term,indexes)",
+    "books": "Book(columns) under(manager,deed)",
+    "shelves": "Shelf(columns)",
+    "texts": "term_text(columns,term) index_text(columns,index) read_term(columns,text) read_index(columns,text)",
+    "judge": "judged(text)",
 }
 
+# Of each class that is not an error its methods and, marked so, its properties.
+CLASSES = {
+    "Book": "table:property indexes:property held_keys:property add(row) remove(row) make(index) drop(which) claim(lot) "
+            "waive(lot) read(lookup,values) covers(term) undo(many=1) copy() trial() __len__() __eq__(other)",
+    "Shelf": "put(name,term) take(name) seek(name) names() alike() done_by(index) choices() __len__() __contains__(name) "
+             "__eq__(other)",
+}
+SPECIAL = {"__init__", "__len__", "__eq__", "__contains__", "__enter__", "__exit__"}
+
 STATEMENTS = (ast.FunctionDef, ast.ClassDef, ast.Return, ast.Assign, ast.For, ast.While, ast.If, ast.Raise,
-              ast.ImportFrom, ast.Expr, ast.AugAssign, ast.Continue, ast.Break)
+              ast.ImportFrom, ast.Expr, ast.AugAssign, ast.Continue, ast.Break, ast.With)
 EXPRESSIONS = (ast.BoolOp, ast.BinOp, ast.UnaryOp, ast.IfExp, ast.Dict, ast.ListComp, ast.DictComp, ast.Compare,
                ast.Call, ast.Constant, ast.Attribute, ast.Subscript, ast.Starred, ast.Name, ast.List, ast.Tuple,
                ast.Slice)
 OPERATORS = (ast.And, ast.Or, ast.Add, ast.Sub, ast.Mult, ast.FloorDiv, ast.LShift, ast.BitAnd, ast.BitOr, ast.BitXor,
              ast.Not, ast.USub, ast.Eq, ast.NotEq,
              ast.Lt, ast.LtE, ast.Gt, ast.GtE, ast.Is, ast.IsNot, ast.In, ast.NotIn)
-PARTS = (ast.Module, ast.arguments, ast.arg, ast.alias, ast.comprehension, ast.Load, ast.Store)
+PARTS = (ast.Module, ast.arguments, ast.arg, ast.alias, ast.comprehension, ast.Load, ast.Store, ast.withitem)
 CALLED = {"len", "range", "enumerate", "sum", "sorted", "tuple", "list", "dict", "set", "any", "all", "min", "max",
-          "type", "zip"}
-ITERATED_AT_ONCE = {"range", "enumerate", "zip"}
+          "type", "zip", "int", "str", "isinstance", "reversed"}
+ITERATED_AT_ONCE = {"range", "enumerate", "zip", "reversed"}
 VIEWS = {"items", "values"}
-METHODS = {"append", "extend", "get", "setdefault", "pop", "index"} | VIEWS
+METHODS = {"append", "extend", "get", "setdefault", "pop", "index", "split", "join"} | VIEWS
 NEVER_IN_A_FILE = {"typing", "typing_extensions", "enum", "Enum", "IntEnum", "StrEnum", "Flag", "IntFlag", "Generic",
                    "Protocol", "ABC", "ABCMeta", "namedtuple", "NamedTuple", "TypedDict", "TYPE_CHECKING",
                    "abstractmethod", "dataclass", "overload", "contextmanager", "_wall", "_WallAttr", "global",
@@ -89,6 +102,16 @@ def bound_names(tree):
     return found
 
 
+def classes():
+    """All classes but errors, each behind the name of its file."""
+    return [(name, node) for name, text in sources() if name != "errors.py" for node in ast.parse(text).body
+            if isinstance(node, ast.ClassDef)]
+
+
+def methods_of(node):
+    return [part for part in node.body if isinstance(part, ast.FunctionDef)]
+
+
 class Files(unittest.TestCase):
     def test_names_and_sizes(self):
         for name, text in sources():
@@ -106,18 +129,19 @@ class Files(unittest.TestCase):
             words = set(re.findall(r"[A-Za-z_]+", text))
             self.assertFalse(words & NEVER_IN_A_FILE, name)
             self.assertNotIn("%", text)
-            self.assertNotIn("\\", text)
+            self.assertNotIn("\\", text.replace('"\\n"', ""))
 
     def test_functions_are_short_and_plain(self):
         for name, text in sources():
             for node in ast.walk(ast.parse(text)):
                 if isinstance(node, ast.FunctionDef):
                     self.assertLessEqual(node.end_lineno - node.lineno + 1, 40, node.name)
-                    self.assertFalse(node.decorator_list or node.returns, node.name)
+                    self.assertFalse(node.returns, node.name)
                     given = node.args
                     self.assertFalse(given.vararg or given.kwarg or given.kwonlyargs or given.posonlyargs)
-                    self.assertFalse(given.defaults, node.name)
-                    self.assertIsNotNone(ast.get_docstring(node) or node.name == "__init__" or None, node.name)
+                    self.assertTrue(all(isinstance(told, ast.Constant) for told in given.defaults), node.name)
+                    bare = node.name in ("__init__", "__exit__")
+                    self.assertIsNotNone(ast.get_docstring(node) or bare or None, node.name)
                     nested = [part for part in ast.walk(node) if isinstance(part, (ast.FunctionDef, ast.ClassDef))]
                     self.assertEqual(nested, [node], node.name)
 
@@ -150,6 +174,7 @@ class Nodes(unittest.TestCase):
                     ast.literal_eval(node.value)
 
     def test_calls(self):
+        methods = METHODS | {part.name for _, node in classes() for part in methods_of(node) if part.name not in SPECIAL}
         for name, text in sources():
             tree = ast.parse(text)
             own = set(bound_names(tree))
@@ -157,7 +182,7 @@ class Nodes(unittest.TestCase):
                 if not isinstance(node, ast.Call):
                     continue
                 if isinstance(node.func, ast.Attribute):
-                    self.assertIn(node.func.attr, METHODS, name)
+                    self.assertIn(node.func.attr, methods, name)
                 else:
                     self.assertIsInstance(node.func, ast.Name, name)
                     self.assertTrue(node.func.id in CALLED or node.func.id in own, (name, node.func.id))
@@ -189,7 +214,8 @@ class Nodes(unittest.TestCase):
         if isinstance(child, ast.Name) and child.id in dir(builtins) and isinstance(child.ctx, ast.Load):
             called = isinstance(node, ast.Call) and field == "func"
             kind = isinstance(node, ast.Compare) and field == "comparators" and child.id in ("int", "str", "tuple")
-            self.assertTrue(called or kind or isinstance(node, ast.ClassDef), (name, child.id))
+            over = field == "decorator_list" and child.id == "property"
+            self.assertTrue(called or kind or over or isinstance(node, ast.ClassDef), (name, child.id))
 
     def test_is_beside_none_and_kinds_alone(self):
         for name, text in sources():
@@ -237,8 +263,8 @@ class Names(unittest.TestCase):
             for told in bound_names(ast.parse(text)):
                 self.assertNotIn(told, dir(builtins), name)
                 self.assertNotIn(told, NO_NAMES, name)
-                if told != "__init__":
-                    self.assertRegex(told, r"^(_|[A-Za-z][A-Za-z0-9_]*)$")
+                if told not in SPECIAL:
+                    self.assertRegex(told, r"^(_|_?[A-Za-z][A-Za-z0-9_]*)$")
             for node in ast.walk(ast.parse(text)):
                 if isinstance(node, ast.Name) and isinstance(node.ctx, ast.Load):
                     self.assertNotEqual(node.id, "_", name)
@@ -287,7 +313,9 @@ class Interface(unittest.TestCase):
             told = set()
             for node in trees[name].body:
                 if isinstance(node, ast.ClassDef):
+                    made = [part for part in methods_of(node) if part.name == "__init__"]
                     told.add(node.name)
+                    told.add(f"{node.name}({','.join(given.arg for part in made for given in part.args.args[1:])})")
                 elif isinstance(node, ast.FunctionDef):
                     told.add(f"{node.name}({','.join(given.arg for given in node.args.args)})")
             self.assertFalse(set(listed.split()) - told, name)
@@ -297,6 +325,92 @@ class Interface(unittest.TestCase):
         told = [node.name for _, text in sources() for node in ast.parse(text).body
                 if isinstance(node, (ast.FunctionDef, ast.ClassDef))]
         self.assertEqual(len(told), len(set(told)))
+
+    def test_classes_have_their_methods_in_themselves(self):
+        seen = []
+        for name, node in classes():
+            seen.append(node.name)
+            told = set()
+            for part in methods_of(node):
+                names = [given.arg for given in part.args.args][1:]
+                for at, default in enumerate(reversed(part.args.defaults)):
+                    names[-1 - at] += f"={ast.unparse(default)}"
+                told.add(f"{part.name}:property" if part.decorator_list else f"{part.name}({','.join(names)})")
+            self.assertFalse(set(CLASSES.get(node.name, "").split()) - told, name)
+        self.assertFalse(set(CLASSES) - set(seen))
+
+
+class Classes(unittest.TestCase):
+    """What L5, L18, L26 and L28 want of classes that are no errors."""
+
+    def test_methods(self):
+        for name, node in classes():
+            self.assertFalse(node.bases or node.keywords or node.decorator_list, name)
+            self.assertIsNotNone(ast.get_docstring(node), name)
+            for part in node.body[1:]:
+                self.assertIsInstance(part, ast.FunctionDef, name)
+                self.assertEqual(part.args.args[0].arg, "self", name)
+                self.assertIn([ast.unparse(told) for told in part.decorator_list], ([], ["property"]), name)
+                self.assertTrue(part.name in SPECIAL or not part.name.startswith("__"), part.name)
+            told = [part.name for part in methods_of(node)]
+            self.assertEqual(len(told), len(set(told)), name)
+
+    def test_names_are_no_attributes_and_no_builtins(self):
+        stored, methods, properties = set(), set(), set()
+        for name, text in sources():
+            for node in ast.walk(ast.parse(text)):
+                if isinstance(node, ast.Attribute) and isinstance(node.ctx, ast.Store):
+                    self.assertIsInstance(node.value, ast.Name, name)
+                    stored.add(node.attr)
+        for _, node in classes():
+            for part in methods_of(node):
+                (properties if part.decorator_list else methods).add(part.name)
+        self.assertFalse(stored & methods)
+        self.assertFalse(stored & properties)
+        self.assertFalse(properties & methods)
+        of_values = {told for kind in (str, int, list, dict, set, tuple, bytes) for told in dir(kind)}
+        self.assertFalse(stored & of_values)
+        self.assertEqual(methods & of_values - SPECIAL, {"add", "remove", "copy"} & methods)
+        self.assertFalse(properties & of_values)
+        self.assertFalse((methods | properties) & CALLED)
+
+    def test_attributes_that_are_read(self):
+        known = set(METHODS)
+        for name, text in sources():
+            for node in ast.walk(ast.parse(text)):
+                if isinstance(node, ast.Attribute) and isinstance(node.ctx, ast.Store):
+                    known.add(node.attr)
+        known |= {part.name for _, node in classes() for part in methods_of(node)}
+        for name, text in sources():
+            for node in ast.walk(ast.parse(text)):
+                if isinstance(node, ast.Attribute):
+                    self.assertIn(node.attr, known, name)
+
+    def test_what_must_not_change_anything(self):
+        """Properties, __eq__, __len__ and __contains__ are one return of what is read or compared."""
+        for name, node in classes():
+            for part in methods_of(node):
+                if part.decorator_list or part.name in ("__eq__", "__len__", "__contains__"):
+                    rows = part.body[1:]
+                    self.assertEqual(len(rows), 1, part.name)
+                    self.assertIsInstance(rows[0], ast.Return)
+                    if part.name == "__len__":
+                        self.assertRegex(ast.unparse(rows[0]), r"^return len\(self\._[a-z]+\)$")
+                    if part.name == "__eq__":
+                        self.assertTrue(ast.unparse(rows[0]).startswith(f"return isinstance(other, {node.name}) and "))
+                    for call in ast.walk(rows[0]):
+                        if isinstance(call, ast.Call):
+                            self.assertIn(ast.unparse(call.func), ("len", "isinstance", "is_name"))
+
+    def test_exits(self):
+        for name, node in classes():
+            for part in methods_of(node):
+                if part.name == "__exit__":
+                    self.assertEqual([given.arg for given in part.args.args], ["self", "kind", "value", "trace"])
+                    first, *rest = [ast.unparse(row) for row in part.body]
+                    self.assertRegex(first, r"^([a-z]+) = self\._\1$")
+                    for row in rest:
+                        self.assertRegex(row, r"^[a-z]+\._[a-z]+ = self\._[a-z]+$")
 
 
 if __name__ == "__main__":

@@ -32,9 +32,9 @@ def need_worths(many, thing):
     return thing
 
 
-def need_few(thing):
-    """The thing itself, where it is K: an integer from 1 to 12."""
-    if not is_integer(thing) or not 1 <= thing <= 12:
+def need_few(most, thing):
+    """The thing itself, where it is K: an integer from 1 to the most."""
+    if not is_integer(thing) or not 1 <= thing <= most:
         raise BadNumber(thing)
     return thing
 

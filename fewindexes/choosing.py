@@ -36,3 +36,11 @@ def lot_apart(chosen, fits):
     for place, lookup in enumerate(chosen):
         lots = lots + [(*lot, place) for lot in lots if not any([fits[lookup, chosen[at]] for at in lot])]
     return min([(-len(lot), lot) for lot in lots])[1]
+
+
+def heaviest_fit(chosen, weights, fits):
+    """The greatest sum of the weights of LOOKUPS that fit; one that is there twice fits itself."""
+    lots = [()]
+    for place, lookup in enumerate(chosen):
+        lots = lots + [(*lot, place) for lot in lots if all([fits[lookup, chosen[at]] for at in lot])]
+    return max([sum([weights[place] for place in lot]) for lot in lots])

@@ -15,8 +15,8 @@ def put_arc(net, tail, head, room, gain):
     net.append([head, tail, 0, -gain])
 
 
-def chain_net(worths, followers, many):
-    """The net in which so many chains can flow.
+def chain_net(worths, followers, many, spare):
+    """The net in which so many chains can flow, or go past all places for what each spares.
 
     The number at a place has two nodes. From the one to the other an arc, all
     of which come first, can be gone once for its worth. All others have more
@@ -30,7 +30,7 @@ def chain_net(worths, followers, many):
         put_arc(net, 2 * place + 3, SINK, room, 0)
         for other in followers[place]:
             put_arc(net, 2 * place + 3, 2 * other + 2, room, 0)
-    put_arc(net, SOURCE, SINK, room, 0)
+    put_arc(net, SOURCE, SINK, room, spare)
     return net
 
 
@@ -74,17 +74,18 @@ def flowing_chain(net, flows, places):
     return chain
 
 
-def best_few(worths, followers, many):
+def best_few(worths, followers, many, spare):
     """The best chains, at most so many, of places whose worths and lists of followers are told.
 
-    A quadruple: the list of the best sums for 1, 2 chains and so on; the list
-    of the chains; TOLL and the list of REBATES: what a chain gains beyond the
-    rebates is at most TOLL. A rebate is what a worth is more than best ways gain
-    from the one node of a place to the other one. This is from 0 to the worth:
-    what flows through can be turned back there, and, as what follows a follower
-    follows, can as well go past.
+    Each chain fewer than so many gains what it spares. A quadruple: the list of
+    the best sums for 1, 2 chains and so on; the list of the chains; TOLL and the
+    list of REBATES: what a chain gains beyond the rebates is at most TOLL. A
+    rebate is what a worth is more than best ways gain from the one node of a
+    place to the other one. This is from 0 to the worth: what flows through can
+    be turned back there, and, as what follows a follower follows, can as well
+    go past.
     """
-    net = chain_net(worths, followers, many)
+    net = chain_net(worths, followers, many, spare)
     sums = []
     for _ in range(many):
         gains, came = best_ways(net)

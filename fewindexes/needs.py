@@ -5,9 +5,10 @@ from fewindexes.choosing import all_choices, all_fits, count_choices, lot_apart
 from fewindexes.covers import fewest_chains
 from fewindexes.errors import BadNeeds, BadPaper, TooMany
 from fewindexes.joining import joined_index
-from fewindexes.kinds import are_indexes, is_need, is_number, is_numbers, is_tuple
+from fewindexes.kinds import are_indexes, is_need, is_numbers, is_tuple
 from fewindexes.lookups import do_two_fit, no_two
 from fewindexes.serving import is_served
+from fewindexes.trees import begins, need_leaves
 
 
 def need_needs(columns, thing):
@@ -81,23 +82,12 @@ def most_holds(needs, many, chosen, numbers):
     return no_two([chosen[number] for number in numbers], do_two_fit)
 
 
-def tree_holds(needs, many, chosen, tree):
-    """Whether a thing is a TREE; chosen is a dict of the LOOKUPS by the numbers of their NEEDS."""
-    if type(tree) is not tuple or tree == () or type(tree[0]) is not str:
+def tree_holds(needs, many, tree):
+    """Whether a thing is a TREE."""
+    leaves = need_leaves(needs, (), tree)
+    if leaves is None:
         return False
-    if tree[0] == "most":
-        return len(tree) == 2 and most_holds(needs, many, chosen, tree[1])
-    if tree[0] != "need" or len(tree) != 3:
-        return False
-    _, number, trees = tree
-    if not is_number(len(needs), number) or number in chosen or not is_tuple(len(needs[number]), trees):
-        return False
-    for lookup, below in zip(needs[number], trees):
-        told = {at: chosen[at] for at in chosen}
-        told[number] = lookup
-        if not tree_holds(needs, many, told, below):
-            return False
-    return True
+    return all([begins("most", 2, leaf) and most_holds(needs, many, chosen, leaf[1]) for chosen, leaf in leaves])
 
 
 def check_needs(columns, needs, paper):
@@ -108,6 +98,6 @@ def check_needs(columns, needs, paper):
     indexes, tree = paper
     if not are_indexes(columns, indexes) or not meet_all(needs, indexes):
         raise BadPaper("indexes")
-    if not tree_holds(needs, len(indexes), {}, tree):
+    if not tree_holds(needs, len(indexes), tree):
         raise BadPaper("tree")
     return len(indexes)

@@ -30,9 +30,8 @@ def bare_prices(lookups, prices):
     return {number: price_of(prices, sets_in(lookups[number])[-1]) for number in bare_numbers(lookups)}
 
 
-def cost_told(demand, prices):
-    """A PAPER on the LEAST COST; its INDEXES are as few as can be."""
-    lookups = demand[1]
+def cost_told(lookups, prices):
+    """A PAPER on the LEAST COST of LOOKUPS; its INDEXES are as few as can be."""
     told = bare_prices(lookups, prices)
     chains, outs, ins = cheapest_chains(told, ahead_followers(lookups, list(told)))
     indexes = [joined_index([lookups[number] for number in chain]) for chain in chains]
@@ -41,16 +40,16 @@ def cost_told(demand, prices):
 
 def least_cost(demand, prices):
     """The LEAST COST."""
-    columns, _ = need_demand(demand)
+    columns, lookups = need_demand(demand)
     need_prices(columns, prices)
-    return all_cost(prices, cost_told(demand, prices)[0])
+    return all_cost(prices, cost_told(lookups, prices)[0])
 
 
 def cost_paper(demand, prices):
     """A PAPER on the LEAST COST; its INDEXES are as few as FEWEST tells."""
-    columns, _ = need_demand(demand)
+    columns, lookups = need_demand(demand)
     need_prices(columns, prices)
-    return cost_told(demand, prices)
+    return cost_told(lookups, prices)
 
 
 def pairs_hold(lookups, told, outs, ins):

@@ -71,8 +71,8 @@ def joined_under(tells, forms):
     return steps if steps != () else ((0, "up"),)
 
 
-def under_chains(forms):
-    """A list of lists of the numbers of all LONE LOOKUPS, as few lists as can be, those in each one fitting.
+def under_followers(forms):
+    """For each number of a LONE LOOKUP the list of the numbers of those that it is ahead of.
 
     Of two LONE ones that fit the one whose first CLOSED SET is less is ahead;
     what is ahead of a second one is ahead of all that this is ahead of.
@@ -83,4 +83,10 @@ def under_chains(forms):
         one = forms[number]
         ahead = [other for other in lone if is_below(one[0][0], forms[other][0][0])]
         followers[number] = [other for other in ahead if do_forms_fit(one, forms[other])]
-    return chains_among(lone, followers)
+    return followers
+
+
+def under_chains(forms):
+    """A list of lists of the numbers of all LONE LOOKUPS, as few lists as can be, those in each one fitting."""
+    followers = under_followers(forms)
+    return chains_among(list(followers), followers)

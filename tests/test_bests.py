@@ -1,14 +1,14 @@
 """fewindexes/bests.py: WORTHS, BEST, its PAPER (points 14, 15, 16)."""
 
 import unittest
-from itertools import combinations, product
-from random import Random
+from itertools import product
 
 from fewindexes.bests import best_paper, best_sum, best_sums, check_best
 from fewindexes.covering import fewest
 from fewindexes.demands import bare_lookups
-from cases import (THORNS, Oddity, Thorny, are_amounts, are_indexes, bare_by_all, changed, error_of, fit_by_fact,
+from cases import (THORNS, Oddity, Thorny, are_amounts, are_indexes, bare_by_all, changed, error_of,
                    masks_by_all, reached_masks, served_table, serves_by_fact, some_demands)
+from price_cases import rows_of, some_worths
 
 SERVED = {columns: served_table(columns) for columns in (1, 2, 3)}
 SMALL = (some_demands(1, (1, 2, 3), 5, 1) + some_demands(2, (1, 2, 4, 6, 9, 12), 40, 2)
@@ -16,15 +16,6 @@ SMALL = (some_demands(1, (1, 2, 3), 5, 1) + some_demands(2, (1, 2, 4, 6, 9, 12),
 BIG = some_demands(8, (12,), 30, 4) + some_demands(5, (7, 12), 30, 5) + some_demands(4, (12,), 30, 6)
 SINGLE = (8, tuple(((), ((column, "up"), (other, "up"))) for column, other in
                    ((0, 1), (0, 2), (1, 0), (1, 2), (2, 0), (2, 1), (3, 0), (4, 0), (5, 0), (6, 0), (7, 0), (7, 1))))
-
-
-def some_worths(many, seed):
-    """WORTHS of many kinds: alike ones, 0 among them, 1,000."""
-    source = Random(seed)
-    found = [(1,) * many, (0,) * many, (1000,) * many]
-    for most in (1, 2, 5, 1000):
-        found.append(tuple(source.randint(0, most) for _ in range(many)))
-    return found
 
 
 def bests_by_all(demand, worths):
@@ -88,16 +79,6 @@ class Best(unittest.TestCase):
         served = [worth for worth, lookup in zip(worths, lookups)
                   if any(serves_by_fact(index, lookup) for index in indexes)]
         self.assertEqual(sum(served), k * toll + sum(rebates))
-
-
-def rows_of(lookups):
-    """All tuples of places of LOOKUPS that fit."""
-    fit = {(one, other) for one, other in combinations(range(len(lookups)), 2)
-           if fit_by_fact(lookups[one], lookups[other])}
-    rows = [()]
-    for place in range(len(lookups)):
-        rows += [(*row, place) for row in rows if all((at, place) in fit for at in row)]
-    return rows
 
 
 class CheckBest(unittest.TestCase):

@@ -46,6 +46,18 @@ INTERFACE = {
     "shelves": "Shelf(columns)",
     "texts": "term_text(columns,term) index_text(columns,index) read_term(columns,text) read_index(columns,text)",
     "judge": "judged(text)",
+    "desk": "Desk(text)",
+    "needcosts": "least_needcost(columns,needs,prices) needcost_paper(columns,needs,prices) "
+                 "check_needcost(columns,needs,prices,paper)",
+    "needbests": "best_needsum(columns,needs,worths,k) needbest_paper(columns,needs,worths,k) "
+                 "check_needbest(columns,needs,worths,k,paper)",
+    "underbests": "is_stretch(columns,tells,one,other) lone_lookups(demand,tells) best_under(demand,tells,worths,k) "
+                  "bests_under(demand,tells,worths) best_under_paper(demand,tells,worths,k) "
+                  "check_best_under(demand,tells,worths,k,paper) profit(demand,tells,worths,toll) "
+                  "profit_paper(demand,tells,worths,toll) check_profit(demand,tells,worths,toll,paper)",
+    "stockprices": "change_cost(demand,prices,stock,upkeeps,change) least_change_cost(demand,prices,stock,upkeeps) "
+                   "cheapest_change(demand,prices,stock,upkeeps) limit_of(demand,prices,stock,upkeeps,number) "
+                   "change_paper(demand,prices,stock,upkeeps) check_change(demand,prices,stock,upkeeps,paper)",
 }
 
 # Of each class that is not an error its methods and, marked so, its properties.
@@ -54,18 +66,20 @@ CLASSES = {
             "waive(lot) read(lookup,values) covers(term) undo(many=1) copy() trial() __len__() __eq__(other)",
     "Shelf": "put(name,term) take(name) seek(name) names() alike() done_by(index) choices() __len__() __contains__(name) "
              "__eq__(other)",
+    "Desk": "book:property say(line)",
 }
 SPECIAL = {"__init__", "__len__", "__eq__", "__contains__", "__enter__", "__exit__"}
 
 STATEMENTS = (ast.FunctionDef, ast.ClassDef, ast.Return, ast.Assign, ast.For, ast.While, ast.If, ast.Raise,
-              ast.ImportFrom, ast.Expr, ast.AugAssign, ast.Continue, ast.Break, ast.With)
+              ast.ImportFrom, ast.Expr, ast.AugAssign, ast.Continue, ast.Break, ast.With, ast.Try)
 EXPRESSIONS = (ast.BoolOp, ast.BinOp, ast.UnaryOp, ast.IfExp, ast.Dict, ast.ListComp, ast.DictComp, ast.Compare,
                ast.Call, ast.Constant, ast.Attribute, ast.Subscript, ast.Starred, ast.Name, ast.List, ast.Tuple,
                ast.Slice)
 OPERATORS = (ast.And, ast.Or, ast.Add, ast.Sub, ast.Mult, ast.FloorDiv, ast.LShift, ast.BitAnd, ast.BitOr, ast.BitXor,
              ast.Not, ast.USub, ast.Eq, ast.NotEq,
              ast.Lt, ast.LtE, ast.Gt, ast.GtE, ast.Is, ast.IsNot, ast.In, ast.NotIn)
-PARTS = (ast.Module, ast.arguments, ast.arg, ast.alias, ast.comprehension, ast.Load, ast.Store, ast.withitem)
+PARTS = (ast.Module, ast.arguments, ast.arg, ast.alias, ast.comprehension, ast.Load, ast.Store, ast.withitem,
+         ast.ExceptHandler)
 CALLED = {"len", "range", "enumerate", "sum", "sorted", "tuple", "list", "dict", "set", "any", "all", "min", "max",
           "type", "zip", "int", "str", "isinstance", "reversed"}
 ITERATED_AT_ONCE = {"range", "enumerate", "zip", "reversed"}
@@ -242,6 +256,18 @@ class Nodes(unittest.TestCase):
                 if isinstance(node, ast.Raise):
                     self.assertIsInstance(node.exc, ast.Call, name)
                     self.assertIsNone(node.cause, name)
+
+    def test_own_errors_alone_are_caught(self):
+        own = {node.name for name, text in sources() if name == "errors.py" for node in ast.parse(text).body
+               if isinstance(node, ast.ClassDef)}
+        for name, text in sources():
+            for node in ast.walk(ast.parse(text)):
+                if isinstance(node, ast.Try):
+                    self.assertFalse(node.orelse or node.finalbody, name)
+                if isinstance(node, ast.ExceptHandler):
+                    self.assertIsNone(node.name, name)
+                    told = node.type.elts if isinstance(node.type, ast.Tuple) else [node.type]
+                    self.assertFalse({ast.unparse(part) for part in told} - own, name)
 
 
 class Names(unittest.TestCase):

@@ -8,31 +8,11 @@ from time import perf_counter
 from fewindexes.covering import fewest
 from fewindexes.needs import check_needs, do_meet, least_for, needs_paper
 from cases import (THORNS, Oddity, Thorny, all_indexes, all_lookups, are_indexes, changed, error_of, fit_by_fact,
-                   served_table, serves_by_fact, some_demands, some_lookup)
+                   served_table, serves_by_fact, some_demands)
+from need_cases import met_by, some_needs
 
 SERVED = {columns: served_table(columns) for columns in (1, 2, 3)}
-ALL = {columns: all_lookups(columns) for columns in (1, 2, 3)}
 ONE, TWO, BOTH = ((0,), ()), ((1,), ()), ((0, 1), ())
-
-
-def some_needs(columns, sizes, many, seed):
-    """Many NEEDS by a random source that begins alike each time."""
-    source = Random(seed)
-    found = []
-    for _ in range(many):
-        needs = []
-        for size in source.choice(sizes):
-            lookups = set()
-            while len(lookups) < size:
-                if needs and source.random() < 0.2:
-                    lookups.add(source.choice(source.choice(needs)))
-                elif columns < 4:
-                    lookups.add(source.choice(ALL[columns]))
-                else:
-                    lookups.add(some_lookup(source, source.sample(range(columns), columns)))
-            needs.append(tuple(sorted(lookups)))
-        found.append(tuple(needs))
-    return found
 
 
 SMALL = ([(1, needs) for needs in some_needs(1, ((1,), (3,), (2, 1), (1, 2, 3), (2, 2, 2, 1, 1, 1)), 12, 1)]
@@ -41,11 +21,6 @@ SMALL = ([(1, needs) for needs in some_needs(1, ((1,), (3,), (2, 1), (1, 2, 3), 
                                                    (1, 1, 1, 1, 1, 1)), 40, 3)])
 BIG = ([(8, needs) for needs in some_needs(8, ((24, 12), (2, 2, 2, 2, 3, 6), (3, 3, 3, 3, 3, 1), (12, 24)), 10, 4)]
        + [(4, needs) for needs in some_needs(4, ((5, 5, 4, 3), (2, 2, 2, 2, 3, 6), (10, 10, 3)), 12, 5)])
-
-
-def met_by(served, needs, indexes):
-    """Point 24: whether for each NEED one of the INDEXES serves one of its LOOKUPS."""
-    return all(any(served[lookup] & set(indexes) for lookup in need) for need in needs)
 
 
 def least_by_all_indexes(columns, needs):

@@ -8,41 +8,13 @@ from fewindexes.demands import bare_lookups
 from fewindexes.fitting import is_ahead
 from fewindexes.prices import check_cost, cost_of, cost_paper, least_cost
 from cases import (THORNS, Oddity, Thorny, ahead_by_all, are_amounts, are_indexes, bare_by_all, changed, error_of,
-                   masks_by_all, served_table, some_demands)
+                   served_table, some_demands)
+from price_cases import least_by_all, price, some_prices
 
 SERVED = {columns: served_table(columns) for columns in (1, 2, 3)}
 SMALL = (some_demands(1, (1, 2, 3), 5, 1) + some_demands(2, (1, 2, 4, 6, 9, 12), 40, 2)
          + some_demands(3, (1, 3, 5, 8, 12), 60, 3))
 BIG = some_demands(8, (12,), 40, 4) + some_demands(5, (7, 12), 40, 5) + some_demands(4, (12,), 40, 6)
-
-
-def some_prices(columns, seed):
-    """PRICES of many kinds: alike ones, 0 among them, all 1, 1,000."""
-    source = Random(seed)
-    found = [(1,) * columns, (0,) * columns, (1000,) * columns, (7,) * columns]
-    for most in (1, 2, 5, 1000):
-        found.append(tuple(source.randint(0, most) for _ in range(columns)))
-    return found
-
-
-def price(prices, columns):
-    return sum(prices[column] for column in columns)
-
-
-def least_by_all(demand, prices):
-    """Point 12, by trying all rows of INDEXES."""
-    kinds = {}
-    for index, mask in masks_by_all(demand, SERVED[demand[0]]).items():
-        cost = price(prices, [step[0] for step in index])
-        kinds[mask] = min(cost, kinds.get(mask, cost))
-    everyone = (1 << len(demand[1])) - 1
-    costs = {0: 0}
-    for mask in range(everyone):
-        if mask in costs:
-            for kind, cost in kinds.items():
-                told = costs[mask] + cost
-                costs[mask | kind] = min(told, costs.get(mask | kind, told))
-    return costs[everyone]
 
 
 class CostOf(unittest.TestCase):
@@ -103,7 +75,7 @@ class LeastCost(unittest.TestCase):
     def test_beside_all_indexes(self):
         for demand in SMALL:
             for prices in some_prices(demand[0], len(demand[1])):
-                self.assertEqual(least_cost(demand, prices), least_by_all(demand, prices), (demand, prices))
+                self.assertEqual(least_cost(demand, prices), least_by_all(demand, prices, SERVED[demand[0]]), (demand, prices))
 
     def test_by_hand(self):
         demand = (3, (((), ((0, "up"), (1, "up"))), ((0, 1), ((2, "up"),)), ((0, 2), ()), ((1,), ())))
@@ -147,7 +119,7 @@ class LeastCost(unittest.TestCase):
             steps = sum(len(index) for index in cost_paper(demand, prices)[0])
             self.assertEqual(least_cost(demand, prices), steps)
             if demand[0] < 4:
-                self.assertEqual(steps, least_by_all(demand, prices))
+                self.assertEqual(steps, least_by_all(demand, prices, SERVED[demand[0]]))
 
 
 class CheckCost(unittest.TestCase):
@@ -256,7 +228,7 @@ class CheckCost(unittest.TestCase):
                 told = error_of(check_cost, demand, prices, paper)
                 self.assertEqual(told, None if part is None else ("BadPaper", {"part": part}), paper)
                 if part is None:
-                    self.assertEqual(check_cost(demand, prices, paper), least_by_all(demand, prices))
+                    self.assertEqual(check_cost(demand, prices, paper), least_by_all(demand, prices, SERVED[demand[0]]))
 
 
 if __name__ == "__main__":

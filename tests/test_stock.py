@@ -7,40 +7,13 @@ from random import Random
 from fewindexes.covering import fewest
 from fewindexes.stock import (add_paper, best_change, check_add, is_idle, is_in, least_add, lost, trimmed)
 from cases import (THORNS, Oddity, Thorny, all_indexes, are_indexes, changed, error_of, fewest_by_all_indexes,
-                   served_table, serves_by_fact, some_demands)
+                   served_table, some_demands)
+from stock_cases import left_of, lost_by_all, some_stocks
 
 SERVED = {columns: served_table(columns) for columns in (1, 2, 3)}
 SMALL = (some_demands(1, (1, 2, 3), 5, 1) + some_demands(2, (1, 2, 4, 6, 9), 30, 2)
          + some_demands(3, (1, 3, 5, 8, 12), 60, 3))
 BIG = some_demands(8, (12,), 20, 4) + some_demands(4, (12,), 20, 6)
-
-
-def some_stocks(columns, demand, seed):
-    """STOCKS of few and many INDEXES; some of them serve LOOKUPS of the DEMAND as short as can be."""
-    source = Random(seed)
-    found = [()]
-    for many in (1, 2, 3, 5, 8):
-        indexes = set()
-        for _ in range(many):
-            if source.random() < 0.5:
-                equal, sort = source.choice(demand[1])
-                first = [(column, source.choice(("up", "down"))) for column in source.sample(equal, len(equal))]
-                indexes.add((*first, *sort))
-            else:
-                turn = source.sample(range(columns), source.randint(1, columns))
-                indexes.add(tuple((column, source.choice(("up", "down"))) for column in turn))
-        found.append(tuple(sorted(indexes)))
-    return found
-
-
-def lost_by_all(demand, stock):
-    return tuple(number for number, lookup in enumerate(demand[1])
-                 if not any(serves_by_fact(index, lookup) for index in stock))
-
-
-def left_of(demand, stock):
-    """The DEMAND of the LOST LOOKUPS alone."""
-    return (demand[0], tuple(demand[1][number] for number in lost_by_all(demand, stock)))
 
 
 def added_by_all(demand, stock):

@@ -15,7 +15,7 @@ from fewindexes.trees import begins, need_leaves
 
 
 def all_picks(needs):
-    """For each NEED the tuple of what can be picked for it."""
+    """The list of the tuples of what can be picked for each NEED."""
     return [(*need, None) for need in needs]
 
 

@@ -4,6 +4,10 @@ import copy
 import importlib
 import unittest
 
+from fewindexes.books import Book
+from fewindexes.desk import Desk
+from fewindexes.shelves import Shelf
+from fewindexes.terms import choices_of
 from cases import Oddity, Thorny, error_of
 
 STEP_UP, STEP_DOWN = (0, "up"), (1, "down")
@@ -194,6 +198,107 @@ class Calls(unittest.TestCase):
                 for later in range(at + 1, len(right)):
                     both = right[:at] + ["x"] + right[at + 1:later] + ["y"] + right[later + 1:]
                     self.assertEqual(error_of(call, *both), first, name)
+
+
+def a_book():
+    book = Book(3)
+    for row in TABLE[1:]:
+        book.add(row)
+    book.make(INDEX)
+    book.claim((0, 1))
+    return book
+
+
+def a_shelf():
+    shelf = Shelf(3)
+    shelf.put("b", TERM)
+    shelf.put("a", ("rows",))
+    return shelf
+
+
+def a_desk():
+    desk = Desk("3")
+    desk.say("add 0 1 2")
+    return desk
+
+
+def state_of(thing):
+    """All that an object tells of itself."""
+    if isinstance(thing, Desk):
+        return state_of(thing.book)
+    if isinstance(thing, Shelf):
+        return tuple((name, thing.seek(name)) for name in thing.names())
+    return (thing.table, thing.indexes, thing.held_keys, len(thing))
+
+
+# Of each method what makes an object, its name, right arguments, and what is told.
+METHOD_CALLS = [
+    (a_book, "add", ((7, 7, 7),), None),
+    (a_book, "remove", (TABLE[1],), None),
+    (a_book, "make", (INDEX[:1],), None),
+    (a_book, "drop", (0,), None),
+    (a_book, "claim", ((1, 2),), None),
+    (a_book, "waive", ((0, 1),), None),
+    (a_book, "read", (LOOKUP, (0,)), (0, ((0, 2, 0), (0, 1, 2)))),
+    (a_book, "covers", (TERM,), (0, 0)),
+    (a_book, "undo", (2,), None),
+    (a_shelf, "put", ("c", TERM), None),
+    (a_shelf, "take", ("a",), ("rows",)),
+    (a_shelf, "seek", ("b",), TERM),
+    (a_shelf, "names", (), ("a", "b")),
+    (a_shelf, "alike", (), ()),
+    (a_shelf, "done_by", (INDEX,), ("a", "b")),
+    (a_shelf, "done_by", (INDEX[1:],), ("a",)),
+    (a_shelf, "choices", (), choices_of(3, TERM)),
+    (a_desk, "say", ("rows",), "1"),
+]
+WRONG_THINGS = (None, -1, True, "x", "X", [], {}, ((),), (None,), 3.5j, Oddity(), Thorny(), (Thorny(),))
+
+
+class Methods(unittest.TestCase):
+    def test_equal_calls_tell_equal_things(self):
+        for make, name, given, due in METHOD_CALLS:
+            one, other = make(), make()
+            told = getattr(one, name)(*given)
+            self.assertEqual(told, getattr(other, name)(*copy.deepcopy(given)), name)
+            self.assertEqual(state_of(one), state_of(other))
+            self.assertTrue(is_hard(told))
+            self.assertEqual(told, due, name)
+            if name in ("read", "covers", "seek", "names", "alike", "done_by", "choices", "say"):
+                self.assertEqual(state_of(one), state_of(make()), name)
+                self.assertEqual(getattr(one, name)(*given), told)
+
+    def test_refused_where_each_argument_is_wrong(self):
+        for make, name, given, _ in METHOD_CALLS:
+            for at in range(len(given)):
+                for thing in WRONG_THINGS:
+                    if name in ("put", "take", "seek") and at == 0 and repr(thing) == "'x'":
+                        continue
+                    one = make()
+                    passed = [thing if place == at else right for place, right in enumerate(given)]
+                    if name == "say":
+                        self.assertEqual(one.say(thing), "no")
+                    else:
+                        told = error_of(getattr(one, name), *passed)
+                        self.assertIn(told[0], ("BadName", "BadTerm", "Missing") if make is a_shelf and name != "done_by" else
+                                      ("BadRow", "BadIndex", "BadNumber", "BadKey", "BadLookup", "BadValues", "BadTerm"), name)
+                    self.assertEqual(state_of(one), state_of(make()), (name, "has changed"))
+
+    def test_the_first_wrong_argument_is_refused(self):
+        self.assertEqual(error_of(a_book().read, "x", "y"), ("BadLookup", {"given": "x"}))
+        self.assertEqual(error_of(a_book().read, LOOKUP, "y"), ("BadValues", {"given": "y"}))
+        self.assertEqual(error_of(a_shelf().put, "X", "y"), ("BadName", {"given": "X"}))
+        self.assertEqual(error_of(a_shelf().put, "x", "y"), ("BadTerm", {"path": ()}))
+
+    def test_nothing_that_is_passed_is_changed(self):
+        for make, name, given, _ in METHOD_CALLS:
+            for at in range(len(given)):
+                for soft in SOFT:
+                    passed = copy.deepcopy(soft)
+                    one = make()
+                    error_of(getattr(one, name), *[passed if place == at else thing for place, thing in enumerate(given)])
+                    self.assertEqual(passed, soft, name)
+                    self.assertEqual(state_of(one), state_of(make()))
 
 
 if __name__ == "__main__":

@@ -235,7 +235,7 @@ class Best(unittest.TestCase):
                 worths = tuple(range(900, 900 + len(lone_lookups(demand, tells))))
                 best_under_paper(demand, tells, worths, 12)
                 profit_paper(demand, tells, worths, 500)
-        self.assertLess(perf_counter() - began, 20)
+        self.assertLess(perf_counter() - began, 60)
 
 
 def fitting_rows(tells, lookups):
